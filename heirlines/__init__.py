@@ -1,0 +1,1 @@
+"""Customs of succession, and what holds for all families."""

@@ -1,0 +1,120 @@
+"""Least families and rows for all states that tables can come to."""
+
+from heapq import heappop, heappush
+
+from heirlines.shelf import short_form
+
+ROW = 0
+LINE = 1
+
+
+class Search:
+    """All states of lines and of rows that come, each with its least size.
+
+    A line of a state has one member more than the row that it closes; a row
+    has the members of the row ahead and of the line that is read. So sizes
+    never shrink, and the least state that is waiting has its least size.
+    A class below tells how states are read and closed.
+    """
+
+    def __init__(self, start):
+        self.lines = {}
+        self.rows = {}
+        self.queue = []
+        self.offer_row(0, start, None, None)
+        self.go_on()
+
+    def closings(self, row):
+        """The triples (state of the line, mark, life) to which a row can be closed."""
+        raise NotImplementedError("told by the classes below")
+
+    def behind(self, row, line):
+        """The state of the row behind a child, or None if the two don't go together."""
+        raise NotImplementedError("told by the classes below")
+
+    def offer_row(self, size, state, row, line):
+        """Note that reading a line behind a row gives the state with so many members."""
+        if state not in self.rows or size < self.rows[state][0]:
+            self.rows[state] = (size, row, line)
+            heappush(self.queue, (size, ROW, state))
+
+    def offer_lines(self, row):
+        """Note the lines to which a row can be closed."""
+        size = self.rows[row][0] + 1
+        for state, mark, is_alive in self.closings(row):
+            if state not in self.lines or size < self.lines[state][0]:
+                self.lines[state] = (size, row, mark, is_alive)
+                heappush(self.queue, (size, LINE, state))
+
+    def offer_behind(self, row, line):
+        """Note the row behind a child."""
+        state = self.behind(row, line)
+        if state is not None:
+            self.offer_row(self.rows[row][0] + self.lines[line][0], state, row, line)
+
+    def go_on(self):
+        """Take the least states first, each with all that were taken ahead of it."""
+        taken_rows = {}
+        taken_lines = {}
+        while self.queue:
+            _, sort, state = heappop(self.queue)
+            if sort == ROW and state not in taken_rows:
+                taken_rows[state] = True
+                self.offer_lines(state)
+                for line in list(taken_lines):
+                    self.offer_behind(state, line)
+            elif sort == LINE and state not in taken_lines:
+                taken_lines[state] = True
+                for row in list(taken_rows):
+                    self.offer_behind(row, state)
+
+    def row_lines(self, row):
+        """The states of the lines of a least row, from the eldest."""
+        states = []
+        while self.rows[row][2] is not None:
+            states.append(self.rows[row][2])
+            row = self.rows[row][1]
+        return states[::-1]
+
+    def size_of_line(self, state):
+        """How many members a least line of this state has."""
+        return self.lines[state][0]
+
+    def family(self, top):
+        """A least family whose founder's line has this state."""
+        needed = {top: True}
+        waiting = [top]
+        while waiting:
+            children = self.row_lines(self.lines[waiting.pop()][1])
+            for state in children:
+                if state not in needed:
+                    needed[state] = True
+                    waiting.append(state)
+        numbers = {}
+        told = []
+        # a child's line is smaller than its parent's, so it comes first
+        for state in sorted(list(needed), key=self.size_of_line):
+            _, row, mark, is_alive = self.lines[state]
+            told.append((mark, is_alive, tuple([numbers[child] for child in self.row_lines(row)])))
+            numbers[state] = len(numbers)
+        return short_form(told)
+
+
+class TableSearch(Search):
+    """The ranks and stands of one table that are reached."""
+
+    def __init__(self, table):
+        self.table = table
+        super().__init__(0)
+
+    def closings(self, row):
+        """Each rank to which the stand can be closed."""
+        found = []
+        for mark, pair in enumerate(self.table[4]):
+            for life, cells in enumerate(pair):
+                found.append((cells[row][0], mark, life == 1))
+        return found
+
+    def behind(self, row, line):
+        """The stand behind a child with this rank."""
+        return self.table[3][row][line][0]
