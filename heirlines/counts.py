@@ -25,11 +25,9 @@ def levels(family, who=(None, None)):
 
 def number_of(family, order, who, way):
     """How many members of WHO come ahead of the member."""
-    need_family(family)
+    lines = short_form(need_family(family))
     need_order(order)
     need_who(who)
-    need_member(family, way)
-    lines = short_form(family)
     path = need_member(lines, way)
     if order == "levels":
         return level_number(lines, who, path, way)

@@ -1,6 +1,6 @@
 """Births and deaths, and what comes of them."""
 
-from heirlines.checks import is_ascending, is_between, is_whole_row, need_marks
+from heirlines.checks import is_ascending, is_between, is_whole_row
 from heirlines.errors import BadDeed, BadStory, BadWay, TooGreat
 from heirlines.lines import MOST_CHILDREN, MOST_LINES, need_family, within_bounds
 from heirlines.readings import Reader, need_read
@@ -57,7 +57,6 @@ def tops_behind(shelf, top, story, marks):
 
 def need_deed(family, deed, marks=3):
     """Return the deed itself, if it is possible."""
-    need_marks(marks)
     need_family(family, marks)
     shelf = Shelf()
     word = deed_fault(shelf, shelf.keep_family(family), deed, marks)

@@ -9,11 +9,9 @@ from heirlines.ways import need_member
 
 def kin_numbers(family, way, who):
     """For each UP, and each DOWN, how many members of WHO are (UP, DOWN) from the member."""
-    need_family(family)
-    need_member(family, way)
-    need_who(who)
-    lines = short_form(family)
+    lines = short_form(need_family(family))
     path = need_member(lines, way)
+    need_who(who)
     packs = LevelPacks(lines, who)
     numbers = []
     # the line from which one came up is left out, one level further down
@@ -26,16 +24,14 @@ def kin_numbers(family, way, who):
 
 def kin_found(family, way, who, up, down, number):
     """The member of WHO that is (up, down) from the member behind so many others, or None."""
-    need_family(family)
-    need_member(family, way)
+    lines = short_form(need_family(family))
+    path = need_member(lines, way)
     need_who(who)
     need_count(up)
     need_count(down)
     need_count(number)
     if up > len(way):
         return None
-    lines = short_form(family)
-    path = need_member(lines, way)
     level = len(way) - up
     packs = LevelPacks(lines, who)
     if up == 0 or down == 0:

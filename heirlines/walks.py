@@ -150,7 +150,6 @@ def claimant(rule, family, number):
 def place_in_claim(rule, family, way):
     """The NUMBER of the member in the line of claim, or None."""
     walk = walked(rule, family)
-    need_member(family, way)
     path = need_member(walk.lines, way)
     number = walk.own_number(path[-1])
     for level in reversed(range(len(way))):

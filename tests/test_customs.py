@@ -63,7 +63,8 @@ class NeedCustom(unittest.TestCase):
             for rank in (0, 1):
                 for value in (None, [], (), (0,), (0, "none", 0), [0, "none"], "0n", 0, (2, "old"), (-1, "none"),
                               (True, "old"), (False, "none"), ("0", "none"), (None, "none"), (0, None), (0, 0),
-                              (0, ""), (0, "self"), (1, "line"), (1, "self"), (10 ** 900, "none")):
+                              (0, ""), (0, "self"), (1, "line"), (1, "self"), (10 ** 900, "none"),
+                              (-1, "old"), (-1, "new"), (-2, "none"), (2, "new"), (2, "none")):
                     self.assertEqual(word_of(put(ELDEST, (3, stand, rank), value)), "read", value)
 
     def test_keep_goes_with_the_truths(self):
@@ -87,7 +88,8 @@ class NeedCustom(unittest.TestCase):
                 self.assertEqual(word_of(put(ELDEST, (4, 0, life), value)), "close")
             for value in (None, [], (), (0,), (0, "none", 0), [0, "none"], "0n", 0, (2, "none"), (-1, "none"),
                           (True, "line"), (False, "none"), ("0", "none"), (0, None), (0, ""), (1, "old"), (1, "new"),
-                          (1, "none"), (0, "self"), (0, "line"), (10 ** 900, "none")):
+                          (1, "none"), (0, "self"), (0, "line"), (10 ** 900, "none"), (-1, "line"), (-1, "self"),
+                          (-2, "none"), (2, "line"), (2, "self")):
                 self.assertEqual(word_of(put(ELDEST, (4, 0, life, 0), value)), "close", value)
 
     def test_pick_goes_with_the_truths(self):

@@ -180,8 +180,10 @@ class OneOrder(unittest.TestCase):
         families = all_families(5, 1)
         forms = sorted({plain_form(rule) for rule in all_rules()})
         for rule in forms[::9]:
-            found = any(self.slow_disorder(rule, family) is not None for family in families)
-            self.assertIs(is_one_order(rule), not found)
+            sizes = [size_of(family) for family in families if self.slow_disorder(rule, family) is not None]
+            self.assertIs(is_one_order(rule), not sizes)
+            if sizes:
+                self.assertEqual(size_of(disorder(rule)[0]), min(sizes))
 
     def test_the_line_of_claim_behind_any_deaths(self):
         rng = random.Random(12)

@@ -6,7 +6,7 @@ import unittest
 from heirlines.readings import rank_of, reading, stand_behind
 from heirlines.shorts import short
 from tests.helper import (ELDEST, NOBODY, YOUNGEST, all_families, chain, customs, doubled, great_family, grow, raised,
-                          read_member, retold, small_families, with_members)
+                          read_member, retold, size_of, small_families, with_members)
 
 LEAF = (0, True, ())
 
@@ -75,6 +75,25 @@ class Reading(unittest.TestCase):
         alive = ((0, True, ()),) + dead[1:]
         self.assertEqual(reading(ELDEST, alive), tuple((1, (0,) * level) for level in range(2000)))
         self.assertEqual(rank_of(ELDEST, alive), 1)
+
+    def test_shared_families_of_2000_lines_and_of_many_members(self):
+        shared = great_family(72, low=10 ** 50)
+        long = chain(2000 - len(shared))
+        told = shared + tuple((mark, is_alive, tuple(len(shared) + child for child in children)
+                               + (len(shared) - 1 - number % 20,))
+                              for number, (mark, is_alive, children) in enumerate(long))
+        self.assertEqual((len(told), len(str(size_of(told))) > 40), (2000, True))
+        for custom in customs(78, 12, marks=3):
+            for family in (shared, told):
+                lines, pairs = short(family), reading(custom, family)
+                self.assertEqual(rank_of(custom, family), pairs[-1][0])
+                for (mark, is_alive, children), (rank, holder) in zip(lines, pairs):
+                    stand, place = stand_behind(custom, tuple(pairs[child][0] for child in children))
+                    closed = custom[4][mark][1 if is_alive else 0][stand]
+                    wanted = {"none": None, "self": (), "line": place}[closed[1]]
+                    if closed[1] == "line":
+                        wanted = (place,) + pairs[children[place]][1]
+                    self.assertEqual((rank, holder), (closed[0], wanted))
 
     def test_great_ones(self):
         dead = tuple((mark, number == 0, children) for number, (mark, _, children) in enumerate(doubled(199)))
