@@ -130,7 +130,8 @@ class Paper(unittest.TestCase):
         family = ((0, True, ()), (0, False, (0, 0)))
         forms = (None, 0, [], (), ("heir", (1, 1)), ("heir", (1, 1), (0,), 0), ["heir", (1, 1), (0,)],
                  ("hair", (1, 1), (0,)), (None, (1, 1), (0,)), ("heir", [1, 1], (0,)), ("heir", None, (0,)),
-                 ("heir", (1, True), (0,)), ("heir", (True, True), (0,)), ("heir", (1, "1"), (0,)), ("heir", "11", (0,)),
+                 ("heir", (1, True), (0,)), ("heir", (True, True), (0,)), ("heir", (1, "1"), (0,)), ("heir", "11",
+                                                                                                     (0,)),
                  ("heir", (1, 1), [0]), ("heir", (1, 1), 0), ("heir", (1, 1), (False,)), ("heir", (1, 1), ("0",)),
                  ("heir", (1, 1), False), ("heir", (0, 0), "none"))
         for paper in forms:

@@ -64,7 +64,8 @@ DEEDS = [(value, ("BadDeed", word)) for value, word in (
 STORIES = [(value, ("BadStory", place)) for value, place in (
     (None, None), ([], None), ((("death", ()),) * 201, None), ((None,), 0), ((("death", ()), ("death", ())), 1))]
 MARK = [(value, ("BadNumber", value)) for value in (None, True, -1, 3, "0", (0,))]
-STANDS = [(value, ("BadNumber", value)) for value in (None, 0, [0, 0, "none"], (0, 0), (False, 0, "none"), (2, 0, "none"),
+STANDS = [(value, ("BadNumber", value)) for value in (None, 0, [0, 0, "none"], (0, 0), (False, 0, "none"), (2, 0,
+                                                                                                            "none"),
                                                       (0, 0, "same"), (0, 0, None))]
 TURNS = [(value, ("BadNumber", value)) for value in (None, 0, [0, 1], (0,), (0, 2), (0, True))]
 

@@ -294,7 +294,8 @@ class Language(unittest.TestCase):
     def test_l23_views_are_iterated_at_once(self):
         for name, node in self.every(ast.Call):
             is_view = isinstance(node.func, ast.Name) and node.func.id in VIEWS
-            is_view = is_view or (isinstance(node.func, ast.Attribute) and node.func.attr in ("items", "keys", "values"))
+            is_view = is_view or (isinstance(node.func, ast.Attribute) and node.func.attr in ("items", "keys",
+                                                                                              "values"))
             if not is_view:
                 continue
             parent = node.parent

@@ -76,7 +76,8 @@ class Behind(unittest.TestCase):
                  (-1, 0, "none"), (False, 0, "none"), (0, False, "none"), ("0", 0, "none"), (0, None, "none"),
                  (0, 0, None), (0, 0, ""), (0, 0, "same"), (0, 0, "first"), (0, 0, "None"), (1, 0, "none"),
                  (1, 0, "second"), (1, 0, "same"), (0, 1, "none"), (0, 1, "first"), (1, 1, "none"), (1, 1, "first"),
-                 (1, 1, "second"), (1, 1, None), (1, 1, ["same"]), (10 ** 900, 0, "none"), (True, 1, "same"))
+                 (1, 1, "second"), (1, 1, None), (1, 1, ["same"]), (10 ** 900, 0, "none"), (True, 1, "same"),
+                 (-1, 0, "first"), (0, -1, "second"), (-1, -1, "same"), (1, -1, "same"))
         for value in wrong:
             self.assertEqual(raised(behind_read, ELDEST, YOUNGEST, value, good), ("BadNumber", value))
             self.assertEqual(raised(behind_read, ELDEST, YOUNGEST, good, value), ("BadNumber", value))
@@ -102,7 +103,8 @@ class Behind(unittest.TestCase):
             self.assertEqual(raised(behind_close, ELDEST, YOUNGEST, good, mark, None), ("BadNumber", mark))
         for is_alive in (0, 1, None, "True", ()):
             self.assertEqual(raised(behind_close, ELDEST, YOUNGEST, good, 0, is_alive), ("BadNumber", is_alive))
-        self.assertEqual(behind_close(is_alive=True, mark=0, stands=good, other=YOUNGEST, custom=ELDEST), (1, 1, "same"))
+        self.assertEqual(behind_close(is_alive=True, mark=0, stands=good, other=YOUNGEST, custom=ELDEST), (1, 1,
+                                                                                                           "same"))
 
 
 class Pairs(unittest.TestCase):

@@ -8,7 +8,8 @@ from heirlines.plain import (are_alike_rules, disorder, family_apart, is_one_ord
 from heirlines.rules import need_rule
 from heirlines.shorts import short
 from heirlines.walks import claimant, heir_by, how_many_claims
-from tests.helper import (all_families, all_rules, at, copied, grow, raised, random_rule, rule_claims, rule_line,
+from tests.helper import (all_families, all_groups, all_rules, at, copied, grow, raised, random_rule, rule_claims,
+                          rule_line,
                           rules, size_of, small_families, ways_of)
 
 SELF, PAST, LATE = (0, "self"), (0, "past"), (0, "late")
@@ -40,7 +41,8 @@ class PlainForms(unittest.TestCase):
         self.assertEqual(plain_form(rule), (1, ("self",), (False,), ()))
         rule = (3, ("last", "line", "none"), (True, False, True), (("eldest", ((2, "self"),)),))
         self.assertEqual(plain_form(rule), (3, ("self", "none", "none"), (False,) * 3, ()))
-        rule = (2, ("self", "line"), (False, False), (("eldest", ((0, "self"),)), ("eldest", ((1, "past"), (1, "self")))))
+        rule = (2, ("self", "line"), (False, False), (("eldest", ((0, "self"),)), ("eldest", ((1, "past"), (1,
+                                                                                                            "self")))))
         self.assertEqual(plain_form(rule), (2, ("self", "line"), (False, False),
                                             (("eldest", ((0, "self"),)), ("eldest", ((1, "past"),)))))
         rule = (1, ("self",), (False,), (("eldest", (SELF,)),))
@@ -164,6 +166,32 @@ class OneOrder(unittest.TestCase):
 
     def test_more_marks(self):
         for rule in rules(9, 150, 2) + rules(10, 100, 3):
+            self.check_told(rule)
+
+    def test_rules_of_two_marks_where_rows_have_a_claimant(self):
+        # kinds of the second mark other than "self" never come here
+        groups = [told for told in all_groups([LATE, PAST, SELF, (1, "self")])
+                  if any((1, "self") in kinds for _, kinds in told)]
+        self.assertEqual(len(groups), 984)
+        for number, told in enumerate(groups):
+            for place, word in enumerate(("self", "last", "line", "none")):
+                if (number + place) % 3 == 0:
+                    for is_led in (False, True):
+                        self.check_told((2, (word, "self"), (is_led, False), told))
+
+    def test_by_hand_for_each_word(self):
+        own = ("eldest", ((1, "self"),))
+        for living, dead, kinds, is_ordered in (
+                ("self", False, (LATE,), True), ("self", True, (LATE,), False), ("self", True, (SELF,), True),
+                ("self", True, (), True), ("self", True, (LATE, SELF), True),
+                ("last", False, (), False), ("last", True, (), True), ("last", True, (LATE, PAST), True),
+                ("last", True, (LATE, PAST, SELF), True), ("last", True, (PAST,), False), ("last", True, (SELF,),
+                                                                                           False),
+                ("line", False, (), False), ("line", True, (), True), ("line", True, (LATE,), False),
+                ("line", True, (LATE, PAST), True), ("none", False, (), True), ("none", True, (), False)):
+            groups = (own, ("eldest", kinds)) if kinds else (own,)
+            rule = (2, (living, "self"), (dead, False), groups)
+            self.assertIs(is_one_order(rule), is_ordered, rule)
             self.check_told(rule)
 
     def test_no_disorder_in_small_families(self):

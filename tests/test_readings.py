@@ -127,7 +127,8 @@ class StandBehind(unittest.TestCase):
         self.assertEqual(raised(stand_behind, YOUNGEST, (1,) * 2001), ("BadNumber", (1,) * 2001))
 
     def test_ranks_that_are_none(self):
-        for ranks in (None, 0, [0], "0", (2,), (0, 2), (-1,), (True,), (False,), (None,), ("0",), ((0,),), (10 ** 900,)):
+        for ranks in (None, 0, [0], "0", (2,), (0, 2), (-1,), (True,), (False,), (None,), ("0",), ((0,),),
+                      (10 ** 900,)):
             self.assertEqual(raised(stand_behind, ELDEST, ranks), ("BadNumber", ranks))
             self.assertEqual(raised(stand_behind, ranks=ranks, custom=ELDEST), ("BadNumber", ranks))
             self.assertEqual(raised(stand_behind, None, ranks), ("BadCustom", "form"))

@@ -55,8 +55,10 @@ class NeedRule(unittest.TestCase):
     def test_groups(self):
         wrong = (None, 0, "", [], [("eldest", (SELF,))], ("eldest", (SELF,)), (("eldest",),), (("eldest", ()),),
                  (("eldest", SELF),), (("eldest", [SELF]),), (["eldest", (SELF,)],), (("elder", (SELF,)),),
-                 ((None, (SELF,)),), (("eldest", (SELF,), 0),), (("eldest", (SELF, LATE)),), (("eldest", (SELF, SELF)),),
-                 (("eldest", (SELF,)), ("youngest", (SELF,))), (("eldest", ((1, "self"),)),), (("eldest", ((-1, "self"),)),),
+                 ((None, (SELF,)),), (("eldest", (SELF,), 0),), (("eldest", (SELF, LATE)),), (("eldest", (SELF,
+                                                                                                          SELF)),),
+                 (("eldest", (SELF,)), ("youngest", (SELF,))), (("eldest", ((1, "self"),)),), (("eldest", ((-1,
+                                                                                                            "self"),)),),
                  (("eldest", ((False, "self"),)),), (("eldest", ((0, "last"),)),), (("eldest", ((0, None),)),),
                  (("eldest", ((0, "self", 1),)),), (("eldest", ([0, "self"],)),), (("eldest", ("self",)),),
                  (("eldest", (None,)),), (("eldest", ((None, "self"),)),), (("eldest", (SELF,)), None),
