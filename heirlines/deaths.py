@@ -80,12 +80,15 @@ class DeathSearch(Search):
             way.append(dying[0])
             line = children[dying[0]]
 
+    def least_change(self):
+        """A least pair (FAMILY, WAY) of a death that changes the heir, who is another one; or None."""
+        changed = [state for state in self.lines if state[2] == "other"]
+        if not changed:
+            return None
+        line = min(changed, key=self.size_of_line)
+        return self.family(line), self.who_dies(line)
+
 
 def least_disorder(table):
     """A least pair (FAMILY, WAY) of a death that changes the heir, who is another one; or None."""
-    search = DeathSearch(table)
-    changed = [state for state in search.lines if state[2] == "other"]
-    if not changed:
-        return None
-    line = min(changed, key=search.size_of_line)
-    return search.family(line), search.who_dies(line)
+    return DeathSearch(table).least_change()

@@ -19,13 +19,31 @@ def is_line(value, place, marks):
     return is_number_row(children, MOST_CHILDREN, place - 1)
 
 
-def need_lines(family, marks):
-    """Return the family, of any number of members, or raise BadFamily."""
-    if not isinstance(family, tuple) or not 1 <= len(family) <= MOST_LINES:
-        raise BadFamily(None)
+def is_row_of_lines(value):
+    """Whether a value is a tuple of as many things as a family may have."""
+    return isinstance(value, tuple) and 1 <= len(value) <= MOST_LINES
+
+
+def wrong_line(family, marks):
+    """The number of the first thing that is no LINE, or None."""
     for place, line in enumerate(family):
         if not is_line(line, place, marks):
-            raise BadFamily(place)
+            return place
+    return None
+
+
+def is_told(value, marks):
+    """Whether a value is a family, of any number of members."""
+    return is_row_of_lines(value) and wrong_line(value, marks) is None
+
+
+def need_lines(family, marks):
+    """Return the family, of any number of members, or raise BadFamily."""
+    if not is_row_of_lines(family):
+        raise BadFamily(None)
+    place = wrong_line(family, marks)
+    if place is not None:
+        raise BadFamily(place)
     return family
 
 

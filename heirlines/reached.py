@@ -44,8 +44,7 @@ def line_size(custom, rank):
 
 def row_for(custom, stand):
     """A least row of the stand."""
-    search = need_stand(custom, stand)
-    return tuple([search.family(rank) for rank in search.row_lines(stand)])
+    return need_stand(custom, stand).row_families(stand)
 
 
 def row_size(custom, stand):
@@ -53,24 +52,31 @@ def row_size(custom, stand):
     return need_stand(custom, stand).rows[stand][0]
 
 
-def is_needed(custom, stand):
-    """Whether the claimant that is held at the stand can come to be heir."""
-    search = need_stand(custom, stand)
+def needed_stands(custom, search):
+    """For each reached stand whether the claimant that is held there can come to be heir."""
     # that claimant is heir as soon as some founder picks what is still held
-    seen = {stand: True}
-    waiting = [stand]
-    while waiting:
-        at = waiting.pop()
-        if picks_line(custom, at):
-            return True
-        for rank in search.lines:
-            next_stand, keep = custom[3][at][rank]
-            if keep == "old" and next_stand not in seen:
-                seen[next_stand] = True
-                waiting.append(next_stand)
-    return False
+    needed = {stand: picks_line(custom, stand) for stand in search.rows}
+    is_new = True
+    while is_new:
+        is_new = False
+        for stand in search.rows:
+            if not needed[stand] and any([leads_on(custom, stand, rank, needed) for rank in search.lines]):
+                needed[stand] = True
+                is_new = True
+    return needed
 
 
 def picks_line(custom, stand):
     """Whether some member with this stand picks the claimant that is held."""
     return any([cells[stand][1] == "line" for pair in custom[4] for cells in pair])
+
+
+def leads_on(custom, stand, rank, needed):
+    """Whether a child with this rank leaves the claimant that is held, at a stand that is needed."""
+    next_stand, keep = custom[3][stand][rank]
+    return keep == "old" and needed[next_stand]
+
+
+def is_needed(custom, stand):
+    """Whether the claimant that is held at the stand can come to be heir."""
+    return needed_stands(custom, need_stand(custom, stand))[stand]

@@ -3,7 +3,7 @@
 from heirlines.checks import is_number_row
 from heirlines.customs import need_custom
 from heirlines.errors import BadNumber
-from heirlines.lines import MOST_LINES, need_family
+from heirlines.lines import MOST_LINES, need_family, need_lines
 from heirlines.shelf import Shelf
 
 
@@ -59,14 +59,31 @@ def need_read(custom, family):
     need_family(family, custom[0])
 
 
+def need_told(custom, family):
+    """Raise unless this is a custom and a family of its marks, of any number of members."""
+    need_custom(custom)
+    need_lines(family, custom[0])
+
+
+def read_lines(custom, lines):
+    """The founder's number on a new shelf, and a reader of this shelf, for a family that is known to be one."""
+    shelf = Shelf()
+    reader = Reader(custom, shelf)
+    top = shelf.keep_family(lines)
+    reader.catch_up()
+    return top, reader
+
+
+def heir_in(custom, lines):
+    """The heir in a family that is known to be one."""
+    top, reader = read_lines(custom, lines)
+    return reader.heir_of(top)
+
+
 def read_family(custom, family):
     """The founder's number on a new shelf, and a reader of this shelf."""
     need_read(custom, family)
-    shelf = Shelf()
-    reader = Reader(custom, shelf)
-    top = shelf.keep_family(family)
-    reader.catch_up()
-    return top, reader
+    return read_lines(custom, family)
 
 
 def rank_of(custom, family):

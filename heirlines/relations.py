@@ -1,5 +1,7 @@
 """The RELATION of two claimants, for two tables that read a family side by side."""
 
+from heirlines.ways import kin_word
+
 RELATIONS = ("none", "first", "second", "same", "above", "below", "elder", "younger")
 
 
@@ -35,3 +37,10 @@ def close_relation(pick, far_pick, held):
     if pick == far_pick:
         return "same" if pick == "self" else held
     return "above" if pick == "self" else "below"
+
+
+def relation_of(heir, far_heir):
+    """The RELATION of two claimants of one family, ways or None."""
+    if heir is None or far_heir is None:
+        return lone_relation("none" if heir is None else "line", "none" if far_heir is None else "line")
+    return kin_word(heir, far_heir)

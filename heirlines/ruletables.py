@@ -1,17 +1,32 @@
-"""Rules as tables like those of customs, with a rank for each kind and a stand for each group."""
+"""Rules as tables like those of customs, with a stand for each group."""
 
 from heirlines.rules import counting_kinds, kinds_of
 
 
 def rule_table(rule):
-    """A table that names the same heirs; it may have more than 8 ranks, as no custom has."""
+    """A table with a rank for each kind; it may have more than 8 ranks, as no custom has."""
+    kinds = kinds_of(rule[0])
+    return table_by(rule, (None,) + kinds, {kind: at + 1 for at, kind in enumerate(kinds)})
+
+
+def small_table(rule):
+    """A table with a rank for each group, and one for all kinds that don't count."""
+    counting = counting_kinds(rule[3])
+    uncounted = len(rule[3]) + 1
+    numbers = {kind: counting.get(kind, uncounted - 1) + 1 for kind in kinds_of(rule[0])}
+    return table_by(rule, (None,) + tuple([kinds[0] for _, kinds in rule[3]]) + (None,), numbers)
+
+
+def table_by(rule, shown, numbers):
+    """A table that names the same heirs as the rule.
+
+    The rank 0 is no claimant; shown has for each rank a kind that is read like
+    it, None of what leaves a row as it was; numbers has the rank of each kind.
+    """
     marks, living, dead, groups = rule
-    kinds = kinds_of(marks)
     stands = (False,) + tuple([True] * len(groups))
-    ranks = (False,) + tuple([True] * len(kinds))
-    numbers = {kind: at + 1 for at, kind in enumerate(kinds)}
-    read = [tuple([read_cell(groups, stand, None)] + [read_cell(groups, stand, kind) for kind in kinds])
-            for stand in range(len(stands))]
+    ranks = (False,) + tuple([True] * (len(shown) - 1))
+    read = [tuple([read_cell(groups, stand, kind) for kind in shown]) for stand in range(len(stands))]
     close = []
     for mark in range(marks):
         dead_row = tuple([dead_cell(numbers, mark, dead[mark], stand) for stand in range(len(stands))])

@@ -76,6 +76,10 @@ class Search:
             row = self.rows[row][1]
         return states[::-1]
 
+    def row_families(self, row):
+        """The families of a least row, from the eldest."""
+        return tuple([self.family(line) for line in self.row_lines(row)])
+
     def size_of_line(self, state):
         """How many members a least line of this state has."""
         return self.lines[state][0]

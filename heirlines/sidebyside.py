@@ -41,11 +41,12 @@ class PairSearch(Search):
         """The pair of stands behind a child."""
         return read_pair(self.table, self.other, row, line)
 
+    def least_apart(self):
+        """A least family in which the two tables name unlike heirs, or None."""
+        apart = [state for state in self.lines if state[2] in APART]
+        return self.family(min(apart, key=self.size_of_line)) if apart else None
+
 
 def least_apart(table, other):
     """A least family in which two tables name unlike heirs, or None."""
-    search = PairSearch(table, other)
-    apart = [state for state in search.lines if state[2] in APART]
-    if not apart:
-        return None
-    return search.family(min(apart, key=search.size_of_line))
+    return PairSearch(table, other).least_apart()

@@ -6,16 +6,24 @@ from heirlines.lines import MOST_CHILDREN, MOST_LINES, need_family
 from heirlines.shelf import Shelf
 
 
-def need_member(lines, way):
-    """The numbers of the lines from the founder's down to the member's, or BadWay."""
+def member_path(lines, way):
+    """The numbers of the lines from the founder's down to the member's; None of any value that is no member's way."""
     if not is_whole_row(way):
-        raise BadWay(way)
+        return None
     path = [len(lines) - 1]
     for place in way:
         children = lines[path[-1]][2]
         if not 0 <= place < len(children):
-            raise BadWay(way)
+            return None
         path.append(children[place])
+    return path
+
+
+def need_member(lines, way):
+    """The numbers of the lines from the founder's down to the member's, or BadWay."""
+    path = member_path(lines, way)
+    if path is None:
+        raise BadWay(way)
     return path
 
 
@@ -62,6 +70,11 @@ def common_length(way, other_way):
 def kin(way, other_way):
     """What the first member is to the second one."""
     need_any_ways(way, other_way)
+    return kin_word(way, other_way)
+
+
+def kin_word(way, other_way):
+    """What the first member is to the second one, for any two ways."""
     level = common_length(way, other_way)
     if level == len(way):
         return "same" if level == len(other_way) else "above"

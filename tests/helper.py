@@ -250,27 +250,12 @@ def random_custom(rng, marks=1, most=4):
     stands = (False,) + tuple(rng.random() < 0.7 for _ in range(rng.randint(0, most - 1)))
     ranks = tuple(rng.random() < 0.7 for _ in range(rng.randint(1, most)))
 
-    def read_cell(stand, rank):
-        cells = []
-        for behind, holds in enumerate(stands):
-            if not holds:
-                cells.append((behind, "none"))
-            else:
-                cells += [(behind, "old")] if stands[stand] else []
-                cells += [(behind, "new")] if ranks[rank] else []
-        return rng.choice(cells)
-
     def close_cell(stand, is_alive):
-        cells = []
-        for rank, holds in enumerate(ranks):
-            if not holds:
-                cells.append((rank, "none"))
-            else:
-                cells += [(rank, "line")] if stands[stand] else []
-                cells += [(rank, "self")] if is_alive else []
+        cells = close_cells(stands, ranks, stand, is_alive)
         return rng.choice(cells) if cells else None
 
-    read = tuple(tuple(read_cell(stand, rank) for rank in range(len(ranks))) for stand in range(len(stands)))
+    read = tuple(tuple(rng.choice(read_cells(stands, ranks, stand, rank)) for rank in range(len(ranks)))
+                 for stand in range(len(stands)))
     close = tuple(tuple(tuple(close_cell(stand, is_alive) for stand in range(len(stands)))
                         for is_alive in (False, True)) for _ in range(marks))
     if any(cell is None for pair in close for row in pair for cell in row):
@@ -380,3 +365,137 @@ def raised(call, *arguments, **named):
         fields = {name: value for name, value in vars(error).items() if name != "things"}
         return (type(error).__name__,) + tuple(fields.values())
     return None
+
+
+# customs of all kinds
+
+
+def read_cells(stands, ranks, stand, rank):
+    """All cells that can stand in READ."""
+    cells = []
+    for behind, holds in enumerate(stands):
+        if not holds:
+            cells.append((behind, "none"))
+        else:
+            cells += [(behind, "old")] if stands[stand] else []
+            cells += [(behind, "new")] if ranks[rank] else []
+    return cells
+
+
+def close_cells(stands, ranks, stand, is_alive):
+    """All cells that can stand in CLOSE."""
+    cells = []
+    for rank, holds in enumerate(ranks):
+        if not holds:
+            cells.append((rank, "none"))
+        else:
+            cells += [(rank, "line")] if stands[stand] else []
+            cells += [(rank, "self")] if is_alive else []
+    return cells
+
+
+def big_custom(rng, marks=3, stands=8, ranks=8, held=0.8):
+    """A custom of just so many stands and ranks."""
+    stands = (False,) + tuple(rng.random() < held for _ in range(stands - 1))
+    ranks = tuple(rng.random() < held for _ in range(ranks))
+    if all(ranks):
+        ranks = (False,) + ranks[1:]
+    read = tuple(tuple(rng.choice(read_cells(stands, ranks, stand, rank)) for rank in range(len(ranks)))
+                 for stand in range(len(stands)))
+    close = tuple(tuple(tuple(rng.choice(close_cells(stands, ranks, stand, is_alive)) for stand in range(len(stands)))
+                        for is_alive in (False, True)) for _ in range(marks))
+    return (marks, stands, ranks, read, close)
+
+
+def big_customs(seed, many, marks=3, stands=8, ranks=8):
+    rng = random.Random(seed)
+    return [big_custom(rng, marks, stands, ranks) for _ in range(many)]
+
+
+def all_customs(many_stands, many_ranks):
+    """All customs of one mark of so many stands and ranks."""
+    found = []
+    for stands in itertools.product((False, True), repeat=many_stands - 1):
+        stands = (False,) + stands
+        for ranks in itertools.product((False, True), repeat=many_ranks):
+            cells = [read_cells(stands, ranks, stand, rank)
+                     for stand in range(many_stands) for rank in range(many_ranks)]
+            cells += [close_cells(stands, ranks, stand, is_alive)
+                      for is_alive in (False, True) for stand in range(many_stands)]
+            for chosen in itertools.product(*cells):
+                read = tuple(chosen[stand * many_ranks:(stand + 1) * many_ranks] for stand in range(many_stands))
+                rest = chosen[many_stands * many_ranks:]
+                found.append((1, stands, ranks, read, ((rest[:many_stands], rest[many_stands:]),)))
+    return found
+
+
+def with_place_changed(custom, rng):
+    """The custom with another cell at one place, if there is one that can stand there."""
+    marks, stands, ranks, read, close = custom
+    stand = rng.randrange(len(stands))
+    if rng.random() < 0.5:
+        rank = rng.randrange(len(ranks))
+        cell = rng.choice(read_cells(stands, ranks, stand, rank))
+        row = read[stand][:rank] + (cell,) + read[stand][rank + 1:]
+        return (marks, stands, ranks, read[:stand] + (row,) + read[stand + 1:], close)
+    mark, life = rng.randrange(marks), rng.randrange(2)
+    cell = rng.choice(close_cells(stands, ranks, stand, life == 1))
+    row = close[mark][life][:stand] + (cell,) + close[mark][life][stand + 1:]
+    pair = (row, close[mark][1]) if life == 0 else (close[mark][0], row)
+    return (marks, stands, ranks, read, close[:mark] + (pair,) + close[mark + 1:])
+
+
+def with_states_twice(custom, rng):
+    """The custom with one stand and one rank told twice, each read to by turns."""
+    marks, stands, ranks, read, close = custom
+    stand, rank = rng.randrange(len(stands)), rng.randrange(len(ranks))
+    more_stand, more_rank = len(stands), len(ranks)
+
+    def other(number, first, second):
+        return rng.choice((first, second)) if number == first else number
+
+    rows = [row + (row[rank],) for row in read]
+    rows.append(rows[stand])
+    read = tuple(tuple((other(cell[0], stand, more_stand), cell[1]) for cell in row) for row in rows)
+    close = tuple(tuple(tuple((other(cell[0], rank, more_rank), cell[1]) for cell in row + (row[stand],))
+                        for row in pair) for pair in close)
+    return (marks, stands + (stands[stand],), ranks + (ranks[rank],), read, close)
+
+
+def with_turns(custom, rng):
+    """A pair of turns by which the custom can be renumbered."""
+    stands = list(range(1, len(custom[1])))
+    ranks = list(range(len(custom[2])))
+    rng.shuffle(stands)
+    rng.shuffle(ranks)
+    return (0,) + tuple(stands), tuple(ranks)
+
+
+def count_stands(most, holds=True):
+    """A dead founder with at least so many living children has the rank 1: the last of these is the claimant, or none.
+
+    So two such customs part just in families in which a member has so many children.
+    """
+    held = (False,) * most + (holds,)
+    keep = "new" if holds else "none"
+    read = tuple(((stand, "none"), (stand + 1, keep if stand + 1 == most else "none"))
+                 for stand in range(most)) + (((most, "old" if holds else "none"),) * 2,)
+    dead = ((0, "none"),) * most + ((1, "line") if holds else (0, "none"),)
+    return (1, held, (False, True), read, ((dead, ((1, "self"),) * (most + 1)),))
+
+
+def random_story(rng, founder, many, marks=3):
+    """Deeds that are possible, done to the members of a founder one by one."""
+    story = []
+    for _ in range(many):
+        living = [way for way in ways_of(founder) if at(founder, way).is_alive]
+        if not living:
+            break
+        way = rng.choice(living)
+        if rng.random() < 0.5:
+            story.append(("birth", way, rng.randrange(marks)))
+            at(founder, way).children.append(Member(story[-1][2], True, []))
+        else:
+            story.append(("death", way))
+            at(founder, way).is_alive = False
+    return tuple(story)

@@ -9,27 +9,11 @@ from heirlines.heirs import heir
 from heirlines.readings import reading
 from heirlines.shorts import short
 from tests.helper import (ELDEST, NOBODY, Member, at, chain, customs, doubled, great_family, grow, heir_in, raised,
+                          random_story,
                           retold, size_of, small_families, tell, ways_of, with_members)
 
 LEAF = (0, True, ())
 WIDE = (LEAF, (0, True, (0,) * 600))
-
-
-def random_story(rng, founder, many, marks=3):
-    """Deeds that are possible, done to the members of a founder one by one."""
-    story = []
-    for _ in range(many):
-        living = [way for way in ways_of(founder) if at(founder, way).is_alive]
-        if not living:
-            break
-        way = rng.choice(living)
-        if rng.random() < 0.5:
-            story.append(("birth", way, rng.randrange(marks)))
-            at(founder, way).children.append(Member(story[-1][2], True, []))
-        else:
-            story.append(("death", way))
-            at(founder, way).is_alive = False
-    return tuple(story)
 
 
 class NeedDeed(unittest.TestCase):
