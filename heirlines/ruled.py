@@ -15,13 +15,13 @@ def custom_of(rule):
 def rule_of(custom):
     """The PLAIN FORM of a rule that names the same heir in all families, or None."""
     need_custom(custom)
-    rule = Asked(custom).plain_rule()
+    rule = RuleGuess(custom).plain_rule()
     if len(rule[3]) > MOST_GROUPS or least_apart(custom, small_table(rule)) is not None:
         return None
     return rule
 
 
-class Asked:
+class RuleGuess:
     """The one PLAIN FORM that a custom can have, by its heirs in families of a few members."""
 
     def __init__(self, custom):
@@ -33,7 +33,7 @@ class Asked:
         self.counted = []
         for mark in self.selfs:
             for life in (False, True):
-                led = [(above, life) for above in range(self.marks) if self.leads(above, life, mark)]
+                led = [(above, life) for above in range(self.marks) if self.is_led_by(above, life, mark)]
                 self.leaders += led
                 if led and mark not in self.counted:
                     self.counted.append(mark)
@@ -42,7 +42,7 @@ class Asked:
         """The heir by the custom."""
         return heir(self.custom, family)
 
-    def leads(self, mark, is_alive, child):
+    def is_led_by(self, mark, is_alive, child):
         """Whether such a member's line has the claimant of its only child's."""
         return self.heir_of(((child, True, ()), (mark, is_alive, (0,)))) == (0,)
 

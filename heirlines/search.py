@@ -14,12 +14,14 @@ class Search:
     A line of a state has one member more than the row that it closes; a row
     has the members of the row ahead and of the line that is read. So sizes
     never shrink, and the least state that is waiting has its least size.
-    A class below tells how states are read and closed.
+    A class below tells how states are read and closed; it may weigh members.
     """
 
     def __init__(self, start):
         self.lines = {}
         self.rows = {}
+        self.taken_lines = {}
+        self.taken_rows = {}
         self.queue = []
         self.offer_row(0, start, None, None)
         self.go_on()
@@ -32,6 +34,18 @@ class Search:
         """The state of the row behind a child, or None if the two don't go together."""
         raise NotImplementedError("told by the classes below")
 
+    def weight(self, _):
+        """What a member with this life counts for."""
+        return 1
+
+    def lines_beside(self, _):
+        """The lines that came ahead of a row and are to be read behind it."""
+        return list(self.taken_lines)
+
+    def rows_beside(self, _):
+        """The rows that came ahead of a line and behind which it is to be read."""
+        return list(self.taken_rows)
+
     def offer_row(self, size, state, row, line):
         """Note that reading a line behind a row gives the state with so many members."""
         if state not in self.rows or size < self.rows[state][0]:
@@ -40,8 +54,8 @@ class Search:
 
     def offer_lines(self, row):
         """Note the lines to which a row can be closed."""
-        size = self.rows[row][0] + 1
         for state, mark, is_alive in self.closings(row):
+            size = self.rows[row][0] + self.weight(is_alive)
             if state not in self.lines or size < self.lines[state][0]:
                 self.lines[state] = (size, row, mark, is_alive)
                 heappush(self.queue, (size, LINE, state))
@@ -54,18 +68,16 @@ class Search:
 
     def go_on(self):
         """Take the least states first, each with all that were taken ahead of it."""
-        taken_rows = {}
-        taken_lines = {}
         while self.queue:
             _, sort, state = heappop(self.queue)
-            if sort == ROW and state not in taken_rows:
-                taken_rows[state] = True
+            if sort == ROW and state not in self.taken_rows:
+                self.taken_rows[state] = True
                 self.offer_lines(state)
-                for line in list(taken_lines):
+                for line in self.lines_beside(state):
                     self.offer_behind(state, line)
-            elif sort == LINE and state not in taken_lines:
-                taken_lines[state] = True
-                for row in list(taken_rows):
+            elif sort == LINE and state not in self.taken_lines:
+                self.taken_lines[state] = True
+                for row in self.rows_beside(state):
                     self.offer_behind(row, state)
 
     def row_lines(self, row):
@@ -86,21 +98,27 @@ class Search:
 
     def family(self, top):
         """A least family whose founder's line has this state."""
-        needed = {top: True}
-        waiting = [top]
+        _, row, mark, is_alive = self.lines[top]
+        return self.family_over(row, mark, is_alive)
+
+    def family_over(self, row, mark, is_alive):
+        """The family of this founder over a least row of children."""
+        needed = {line: True for line in self.row_lines(row)}
+        waiting = list(needed)
         while waiting:
-            children = self.row_lines(self.lines[waiting.pop()][1])
-            for state in children:
-                if state not in needed:
-                    needed[state] = True
-                    waiting.append(state)
+            own_row = self.lines[waiting.pop()][1]
+            for line in self.row_lines(own_row):
+                if line not in needed:
+                    needed[line] = True
+                    waiting.append(line)
         numbers = {}
         told = []
         # a child's line is smaller than its parent's, so it comes first
-        for state in sorted(list(needed), key=self.size_of_line):
-            _, row, mark, is_alive = self.lines[state]
-            told.append((mark, is_alive, tuple([numbers[child] for child in self.row_lines(row)])))
-            numbers[state] = len(numbers)
+        for line in sorted(list(needed), key=self.size_of_line):
+            _, own_row, own_mark, own_life = self.lines[line]
+            told.append((own_mark, own_life, tuple([numbers[child] for child in self.row_lines(own_row)])))
+            numbers[line] = len(numbers)
+        told.append((mark, is_alive, tuple([numbers[child] for child in self.row_lines(row)])))
         return short_form(told)
 
 

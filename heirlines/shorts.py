@@ -2,6 +2,7 @@
 
 from heirlines.lines import line_heights, line_sizes, need_family
 from heirlines.shelf import Shelf, short_form
+from heirlines.twofold import Twofold
 
 
 def short(family):
@@ -41,48 +42,23 @@ def first_apart(family, other):
     return tuple(way)
 
 
-def met_pairs(lines, top, far_top):
-    """The pairs of unlike lines that stand at one way in both families, and the first pair."""
-    met = {(top, far_top): True}
-    waiting = [(top, far_top)]
-    while waiting:
-        at, far_at = waiting.pop()
-        for pair in zip(lines[at][2], lines[far_at][2]):
-            if pair[0] != pair[1] and pair not in met:
-                met[pair] = True
-                waiting.append(pair)
-    return list(met)
-
-
 def in_both(family, other):
     """How many ways are in both; where the lines read alike; where the members don't look alike."""
     need_family(family)
     need_family(other)
-    shelf = Shelf()
-    top, far_top = shelf.keep_family(family), shelf.keep_family(other)
-    sizes = line_sizes(shelf.lines)
-    if top == far_top:
-        return sizes[top], sizes[top], 0
+    twofold = Twofold(family, other)
+    sizes = line_sizes(twofold.shelf.lines)
     counts = {}
-    # children have lesser numbers, so the pairs below come first
-    for pair in sorted(met_pairs(shelf.lines, top, far_top)):
-        counts[pair] = count_pair(shelf.lines, sizes, counts, pair)
-    return counts[(top, far_top)]
-
-
-def count_pair(lines, sizes, counts, pair):
-    """What in_both tells, for the lines of an unlike pair."""
-    line, far_line = lines[pair[0]], lines[pair[1]]
-    shared, alike = 1, 0
-    unlike = 0 if looks_alike(line, far_line) else 1
-    for below in zip(line[2], far_line[2]):
-        if below[0] == below[1]:
-            shared += sizes[below[0]]
-            alike += sizes[below[0]]
+    for pair in twofold.pairs:
+        if pair[0] == pair[1]:
+            counts[pair] = (sizes[pair[0]], sizes[pair[0]], 0)
         else:
-            more = counts[below]
-            shared, alike, unlike = shared + more[0], alike + more[1], unlike + more[2]
-    return shared, alike, unlike
+            line, far_line = twofold.lines_of(pair)
+            many = [counts[below] for below in twofold.pairs_below(pair)]
+            unlike = 0 if looks_alike(line, far_line) else 1
+            counts[pair] = (1 + sum([count[0] for count in many]), sum([count[1] for count in many]),
+                            unlike + sum([count[2] for count in many]))
+    return counts[twofold.top]
 
 
 def settled(family):

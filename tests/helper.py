@@ -1,5 +1,6 @@
 """Plain walks from member to member, against which the package is checked."""
 
+import fractions
 import itertools
 import random
 
@@ -195,6 +196,19 @@ def with_members(many):
             left -= size
         place -= 1
     told.append((0, True, tuple(parts)))
+    return tuple(told)
+
+
+def narrow(many):
+    """A family of exactly so many members, with at most five children each."""
+    sizes = [many]
+    while sizes[-1] > 3:
+        sizes.append((sizes[-1] - 1) // 3)
+    told = [(0, True, ())]
+    if sizes[-1] > 1:
+        told.append((0, True, (0,) * (sizes[-1] - 1)))
+    for size in sizes[-2::-1]:
+        told.append((0, True, (len(told) - 1,) * 3 + (0,) * ((size - 1) % 3)))
     return tuple(told)
 
 
@@ -499,3 +513,83 @@ def random_story(rng, founder, many, marks=3):
             story.append(("death", way))
             at(founder, way).is_alive = False
     return tuple(story)
+
+
+# futures, deed by deed
+
+
+def after_one(founder, marks):
+    """All families behind one deed, told in SHORT FORM, one for each deed."""
+    found = []
+    for way in ways_of(founder):
+        member = at(founder, way)
+        if member.is_alive:
+            member.is_alive = False
+            found.append(tell(founder))
+            member.is_alive = True
+            for mark in range(marks):
+                member.children.append(Member(mark, True, []))
+                found.append(tell(founder))
+                member.children.pop()
+    return found
+
+
+def futures_by_few(family, most, marks):
+    """All futures by at most so many deeds: by how many, and by how many rows of deeds."""
+    newest = {tell(grow(family)): 1}
+    found = {one: (0, 1) for one in newest}
+    for many in range(1, most + 1):
+        behind = {}
+        for one, rows in newest.items():
+            for later in after_one(grow(one), marks):
+                behind[later] = behind.get(later, 0) + rows
+        found.update({later: (many, rows) for later, rows in behind.items()})
+        newest = behind
+    return found
+
+
+# deals, member by member
+
+
+def random_deal(rng, marks=1, stands=3, ranks=3, most=99):
+    """A deal at random; some weights are 0."""
+    weights = tuple(rng.choice((0, 1, 2, rng.randint(0, most))) for _ in range(ranks))
+    read = tuple(tuple(rng.randrange(stands) for _ in range(ranks)) for _ in range(stands))
+    words = (("lines", "lines", "lost"), ("lines", "self", "self", "lost"))
+    close = tuple(tuple(tuple((rng.randrange(ranks), rng.choice(words[life])) for _ in range(stands))
+                        for life in (0, 1)) for _ in range(marks))
+    return (marks, weights, read, close)
+
+
+def deals(seed, many, marks=1, stands=3, ranks=3):
+    rng = random.Random(seed)
+    return [random_deal(rng, marks, rng.randint(1, stands), rng.randint(1, ranks)) for _ in range(many)]
+
+
+def dealt_member(deal, member):
+    """(rank, take)"""
+    stand = 0
+    for child in member.children:
+        stand = deal[2][stand][dealt_member(deal, child)[0]]
+    return deal[3][member.mark][1 if member.is_alive else 0][stand]
+
+
+def dealt(deal, member, part=fractions.Fraction(1), way=()):
+    """What each member has, by ways."""
+    take = dealt_member(deal, member)[1]
+    found = {way: part if take == "self" else part * 0}
+    weights = [deal[1][dealt_member(deal, child)[0]] for child in member.children]
+    for place, child in enumerate(member.children):
+        comes = part * weights[place] / sum(weights) if take == "lines" and sum(weights) else part * 0
+        found.update(dealt(deal, child, comes, way + (place,)))
+    return found
+
+
+def members_by_line(family):
+    """How many members read as each line, where it is needed."""
+    many = [0] * len(family)
+    many[-1] = 1
+    for place in reversed(range(len(family))):
+        for child in family[place][2]:
+            many[child] += many[place]
+    return many
