@@ -100,7 +100,7 @@ class Chance:
     def future(self):
         """A fewest future, or None."""
         key = self.fitting_key()
-        return None if key is None else Building(self).family(key)
+        return None if key is None else Building(self, key).family()
 
 
 def newborn_row(custom, search):
@@ -109,43 +109,60 @@ def newborn_row(custom, search):
 
 
 class Building:
-    """A fewest future that is built on a shelf."""
+    """A fewest future: first what each line comes to, from the founder down, then the lines, from below."""
 
-    def __init__(self, chance):
+    def __init__(self, chance, key):
         self.chance = chance
         self.lines = chance.asked.lines
         self.shelf = Shelf()
+        # lines of a SHORT FORM have the same numbers on the shelf
         self.shelf.keep_family(self.lines)
-        self.built = {}
+        # the pairs to which the members of the SPINE come, and those to which other lines come
+        self.on_spine = {(): key}
+        self.shared = [{} for _ in self.lines]
+        self.choose()
 
-    def family(self, key):
-        """The future in which the founder's line comes to this pair."""
-        return self.shelf.short(self.on_spine((), key))
+    def choose(self):
+        """Choose for all members by what is above them."""
+        for way in self.chance.asked.ways:
+            if way in self.on_spine and not self.chance.asked.is_quiet(way):
+                pairs, _, _ = self.chance.spine_choices[way].choice(self.on_spine[way])
+                children = self.lines[member_path(self.lines, way)[-1]][2]
+                for place, child in enumerate(children):
+                    if way + (place,) in self.chance.spine:
+                        self.on_spine[way + (place,)] = pairs[place]
+                    else:
+                        self.shared[child][pairs[place]] = None
+        # children have lesser numbers
+        for number in reversed(range(len(self.lines))):
+            for key in list(self.shared[number]):
+                pairs, _, _ = self.chance.shared_choices[number].choice(key)
+                for place, child in enumerate(self.lines[number][2]):
+                    self.shared[child].setdefault(pairs[place], None)
 
-    def on_spine(self, way, key):
-        """The number of the line of a member of the SPINE."""
-        number = member_path(self.lines, way)[-1]
-        if self.chance.asked.is_quiet(way):
-            # lines of a SHORT FORM have the same numbers on the shelf
-            return number
-        pairs, newborn, is_alive = self.chance.spine_choices[way].choice(key)
-        children = []
-        for place, child in enumerate(self.lines[number][2]):
-            if way + (place,) in self.chance.spine:
-                children.append(self.on_spine(way + (place,), pairs[place]))
-            else:
-                children.append(self.shared_line(child, pairs[place]))
-        return self.shelf.keep(self.lines[number][0], is_alive, tuple(children) + self.kept_newborn(newborn))
+    def family(self):
+        """The future, in SHORT FORM."""
+        for number in range(len(self.lines)):
+            for key in list(self.shared[number]):
+                pairs, newborn, is_alive = self.chance.shared_choices[number].choice(key)
+                children = [self.shared[child][pairs[place]] for place, child in enumerate(self.lines[number][2])]
+                self.shared[number][key] = self.kept(number, is_alive, children, newborn)
+        kept = {}
+        for way in sorted(list(self.on_spine), reverse=True):
+            number = member_path(self.lines, way)[-1]
+            if self.chance.asked.is_quiet(way):
+                kept[way] = number
+                continue
+            pairs, newborn, is_alive = self.chance.spine_choices[way].choice(self.on_spine[way])
+            children = []
+            for place, child in enumerate(self.lines[number][2]):
+                below = way + (place,)
+                children.append(kept[below] if below in kept else self.shared[child][pairs[place]])
+            kept[way] = self.kept(number, is_alive, children, newborn)
+        return self.shelf.short(kept[()])
 
-    def shared_line(self, number, key):
-        """The number of what another line becomes."""
-        if (number, key) not in self.built:
-            pairs, newborn, is_alive = self.chance.shared_choices[number].choice(key)
-            children = [self.shared_line(child, pairs[place]) for place, child in enumerate(self.lines[number][2])]
-            self.built[(number, key)] = self.shelf.keep(self.lines[number][0], is_alive,
-                                                        tuple(children) + self.kept_newborn(newborn))
-        return self.built[(number, key)]
-
-    def kept_newborn(self, ranks):
-        """The numbers of the lines of newborn children."""
-        return tuple([self.shelf.keep_family(self.chance.search.family(rank)) for rank in ranks])
+    def kept(self, number, is_alive, children, newborn):
+        """The number on the shelf of what a line becomes, with lines of newborn children behind the others."""
+        for rank in newborn:
+            children.append(self.shelf.keep_family(self.chance.search.family(rank)))
+        return self.shelf.keep(self.lines[number][0], is_alive, tuple(children))
