@@ -86,9 +86,9 @@ class Closing:
                     is_less = best is None or many < best[0]
                     if is_less and not self.masks.is_named(mark, row, state[1]):
                         best = (many, state, row, mark)
-        return None if best is None else self.case(best[1], best[2], best[3])
+        return None if best is None else self.family_around(best[1], best[2], best[3])
 
-    def case(self, state, row, mark):
+    def family_around(self, state, row, mark):
         """The family around a living member with this mark and row, and the member's way."""
         shelf = Shelf()
         number = shelf.keep(mark, True, self.kept_row(shelf, row))
