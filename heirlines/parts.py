@@ -2,6 +2,7 @@
 
 from math import gcd, lcm
 
+from heirlines.checks import is_whole
 from heirlines.errors import TooGreat
 
 NOTHING = (0, 1)
@@ -19,6 +20,18 @@ def in_lowest(upper, lower):
 def multiplied(part, other):
     """The product of two fractions."""
     return in_lowest(part[0] * other[0], part[1] * other[1])
+
+
+def is_less(part, other):
+    """Whether the first fraction is less than the second one."""
+    return part[0] * other[1] < other[0] * part[1]
+
+
+def is_lowest(value):
+    """Whether a value is a fraction from 0, in lowest terms."""
+    if not isinstance(value, tuple) or len(value) != 2 or not all([is_whole(item) for item in value]):
+        return False
+    return value[0] >= 0 and value[1] >= 1 and gcd(value[0], value[1]) == 1
 
 
 def weighed_sum(parts, whole):

@@ -28,7 +28,8 @@ WORDS = ("type", "typing", "typing_extensions", "enum", "Enum", "IntEnum", "StrE
          "Protocol", "ABC", "ABCMeta", "namedtuple", "NamedTuple", "TypedDict", "TYPE_CHECKING", "abstractmethod",
          "dataclass", "overload", "contextmanager", "_wall", "_WallAttr")
 STATEMENTS = (ast.FunctionDef, ast.ClassDef, ast.Assign, ast.AugAssign, ast.If, ast.While, ast.For, ast.Return,
-              ast.Break, ast.Continue, ast.Pass, ast.Raise, ast.Assert, ast.Delete, ast.Expr, ast.ImportFrom)
+              ast.Break, ast.Continue, ast.Pass, ast.Raise, ast.Assert, ast.Delete, ast.Expr, ast.ImportFrom, ast.Try,
+              ast.With)
 DOUBLE = {"__init__", "__eq__", "__repr__", "__str__", "__len__", "__enter__", "__exit__"}
 VIEWS = ("zip", "enumerate", "reversed", "range")
 TAKERS = ("list", "tuple", "dict", "sorted", "sum", "any", "all", "enumerate", "zip", "min", "max")
@@ -135,8 +136,8 @@ class Language(unittest.TestCase):
                         self.assertIn(alias.name, used, self.where(name, node))
 
     def test_functions_are_used_or_listed(self):
-        from tests.test_interface import LISTED
-        listed = {text.partition("(")[0] for texts in LISTED.values() for text in texts}
+        from tests.test_interface import LISTED, METHODS_LISTED
+        listed = {text.partition("(")[0] for texts in LISTED.values() for text in texts} | set(METHODS_LISTED)
         used = {node.id for _, node in self.every(ast.Name)} | {node.attr for _, node in self.every(ast.Attribute)}
         for name, function in self.functions:
             self.assertTrue(function.name in used | listed | DOUBLE, self.where(name, function))
@@ -273,6 +274,27 @@ class Language(unittest.TestCase):
         for name, node in self.every(ast.Raise):
             raised = node.exc.func if isinstance(node.exc, ast.Call) else node.exc
             self.assertIsInstance(raised, ast.Name, self.where(name, node))
+
+    def test_l19_own_errors_alone_are_caught(self):
+        for name, node in self.every(ast.Try):
+            self.assertEqual(node.finalbody, [], self.where(name, node))
+            for handler in node.handlers:
+                self.assertIsInstance(handler.type, ast.Name, self.where(name, node))
+                self.assertIn(handler.type.id, self.classes)
+
+    def test_l6_exits_are_plain(self):
+        for name, function in self.functions:
+            if function.name == "__exit__":
+                for part in function.body:
+                    if isinstance(part, ast.Expr):
+                        continue
+                    self.assertIsInstance(part, ast.Assign, self.where(name, part))
+                    self.assertIsInstance(part.targets[0], ast.Attribute)
+                    self.assertIsInstance(part.value, (ast.Attribute, ast.Name))
+
+    def test_class_names_are_unlike(self):
+        names = [node.name for _, node in self.every(ast.ClassDef)]
+        self.assertEqual(len(set(names)), len(names))
 
     def test_l20_is(self):
         for name, node in self.every(ast.Compare):
