@@ -593,3 +593,46 @@ def members_by_line(family):
         for child in family[place][2]:
             many[child] += many[place]
     return many
+
+
+# texts
+
+
+RULE_WORDS = {}
+
+
+def rule_words():
+    """All beginnings of texts of rules of one mark, word by word, with line feeds as words between lines."""
+    if not RULE_WORDS:
+        for marks, living, dead, groups in all_rules():
+            words = ["marks", str(marks), "\n", "living", living[0], "\n", "dead", "yes" if dead[0] else "no"]
+            for side, kinds in groups:
+                words += ["\n", side] + [str(word) for kind in kinds for word in kind]
+            for many in range(len(words) + 1):
+                RULE_WORDS.setdefault(tuple(words[:many]), many == len(words))
+            RULE_WORDS[tuple(words)] = True
+    return RULE_WORDS
+
+
+def altered(text, rng, words):
+    """A text with something wrong at it, perhaps: a word or a line changed, left out, told twice; cut."""
+    lines = [line.split(" ") for line in text.split("\n")]
+    line = rng.randrange(len(lines))
+    place = rng.randrange(len(lines[line]))
+    how = rng.randrange(9)
+    if how < 2:
+        lines[line][place] = rng.choice(words)
+    elif how == 2:
+        lines[line][place:place + 1] = []
+    elif how == 3:
+        lines[line][place:place] = [lines[line][place]]
+    elif how == 4:
+        lines[line][place] = rng.choice(("", "0" + lines[line][place], lines[line][place] + "x", "-1", "+1"))
+    elif how == 5:
+        lines[line:line + 1] = []
+    elif how == 6:
+        lines[line:line] = [list(lines[line])]
+    elif how == 7:
+        lines[line][place] = rng.choice(rng.choice(lines) or [""])
+    told = "\n".join(" ".join(row) for row in lines)
+    return told[:rng.randrange(len(told) + 1)] if how == 8 else told

@@ -9,11 +9,23 @@ from tests.helper import raised
 from tests.interface_deals import DEALS_LISTED, DEALS_WRONG
 from tests.interface_later import LATER_LISTED, LATER_WRONG
 from tests.interface_tables import APART, FIRST_LISTED, FIRST_WRONG
+from tests.interface_texts import TEXTS_LISTED, TEXTS_WRONG
 
-LISTED = FIRST_LISTED | LATER_LISTED | DEALS_LISTED
-WRONG = FIRST_WRONG | LATER_WRONG | DEALS_WRONG
-# methods of the classes of the interface
-METHODS_LISTED = ("question", "answer", "guess", "correct", "counts")
+LISTED = FIRST_LISTED | LATER_LISTED | DEALS_LISTED | TEXTS_LISTED
+WRONG = FIRST_WRONG | LATER_WRONG | DEALS_WRONG | TEXTS_WRONG
+# the classes of the interface with the methods that are listed for them
+CLASSES = {
+    "lessons.Lesson": ("Lesson(marks)", "question(self)", "answer(self, heir)", "guess(self)",
+                       "correct(self, family, heir)", "counts(self)"),
+    "live.House": ("House(custom, family, names)", "enter(self, deed)", "late(self, number, deed)",
+                   "strike(self, number)", "undo(self, *, steps=1)", "again(self, *, steps=1)", "trial(self)",
+                   "copy(self)", "heir_name(self)", "claim_names(self, many)", "way_of(self, name)",
+                   "name_at(self, way)", "as_story(self)", "named_reigns(self)", "moment(self, number)"),
+    "desk.Desk": ("Desk()", "say(self, line)"),
+}
+METHODS_LISTED = [text.partition("(")[0] for texts in CLASSES.values() for text in texts[1:]]
+# it takes what has methods, so nothing of it is told by wrong values
+TESTED_APART = ("live.under",)
 
 
 def function_named(name):
@@ -31,9 +43,19 @@ class Interface(unittest.TestCase):
                 self.assertEqual(name + str(inspect.signature(function)), text)
                 self.assertEqual(function.__module__, "heirlines." + module)
 
+    def test_classes_and_their_own_methods(self):
+        for name, (made, *methods) in CLASSES.items():
+            one = function_named(name)
+            self.assertEqual(one.__name__ + str(inspect.signature(one)), made)
+            self.assertEqual(one.__module__, "heirlines." + name.partition(".")[0])
+            for text in methods:
+                method = vars(one)[text.partition("(")[0]]
+                self.assertEqual(method.__name__ + str(inspect.signature(method)), text)
+        self.assertIn("__eq__", vars(function_named("live.House")))
+
     def test_each_function_has_its_wrong_arguments(self):
         listed = {module + "." + text.partition("(")[0] for module, texts in LISTED.items() for text in texts}
-        self.assertEqual(set(WRONG) | set(APART), listed)
+        self.assertEqual(set(WRONG) | set(APART) | set(TESTED_APART), listed)
 
 
 class Wrong(unittest.TestCase):
