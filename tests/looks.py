@@ -160,3 +160,83 @@ def rule_of_one_mark(done, before, word):
     if word is None:
         return here + ("\n",) in texts or texts.get(here, False)
     return here + (word,) in texts
+
+
+def rule(done, before, word):
+    """By lists of the kinds that are left."""
+    marks = int(done[0][1]) if done else 0
+    if before is None:
+        return len(done) > 2
+    if len(done) < 3:
+        head = ("marks", "living", "dead")[len(done)]
+        words = ((MARKS[1:] + ("3",)), ("self", "last", "line", "none"), ("yes", "no"))[len(done)]
+        due = 2 if not done else 1 + marks
+        if word is None:
+            return len(before) == due
+        return word == head if not before else len(before) < due and word in words
+    kinds = [(str(mark), how) for mark in range(marks) for how in ("late", "past", "self")]
+    for words in done[3:]:
+        kinds = [kind for kind in kinds if kind not in list(zip(words[1::2], words[2::2]))]
+    if not before:
+        return word in ("eldest", "youngest") and len(done) < 9 and len(kinds) > 0
+    told = list(zip(before[1::2], before[2::2]))
+    left = [kind for kind in kinds if not told or kind > told[-1]]
+    if word is None:
+        return len(before) > 1 and len(before) % 2 == 1
+    if len(before) % 2 == 1:
+        return word in [mark for mark, _ in left]
+    return (before[-1], word) in left
+
+
+SORTS = {"family": family, "custom": custom, "rule": rule, "deal": deal, "story": story}
+VERDICTS = {"heir": "nnw", "claims": "nn", "alike": "nn", "parts": "nnn", "steady": "n", "lasting": "n", "leads": "nnn",
+            "heirs": "nnnw", "joined": "nnnpppppppp", "share": "nnydd"}
+
+
+def is_verdict_word(sort, word):
+    if sort == "n":
+        return is_name(word)
+    if sort == "p":
+        return word in ("first", "second", "none")
+    if sort == "d":
+        return re.fullmatch("0|[1-9][0-9]{0,8}", word) is not None
+    return is_way(word) or (sort == "w" and word == "nobody")
+
+
+def sheet(done, before, word):
+    entries = []
+    has_verdicts = False
+    for words in done:
+        if words[0] in SORTS:
+            entries.append((words, []))
+        elif words[0] == "-":
+            entries[-1][1].append(words[1:])
+        else:
+            has_verdicts = True
+    is_whole = not entries or SORTS[entries[-1][0][0]](entries[-1][1], None, None)
+    if before is None:
+        return len(done) > 0 and is_whole
+    if not before:
+        if word == "-":
+            goes_on = entries and not has_verdicts
+            # some word has to be able to begin the next line of the text
+            return bool(goes_on) and can_begin(SORTS[entries[-1][0][0]], entries[-1][1])
+        return is_whole and (word in VERDICTS or (word in SORTS and not has_verdicts))
+    if before[0] == "-":
+        return SORTS[entries[-1][0][0]](entries[-1][1], before[1:], word)
+    if before[0] in SORTS:
+        if word is None:
+            return len(before) == 2
+        return len(before) == 1 and is_name(word) and word not in [words[1] for words, _ in entries]
+    sorts = VERDICTS[before[0]]
+    if word is None:
+        return len(before) > len(sorts)
+    if len(before) <= len(sorts):
+        return is_verdict_word(sorts[len(before) - 1], word)
+    return (before[0] == "heirs" and is_verdict_word("w", word)) or (
+        before[0] == "claims" and len(before) <= 101 and is_verdict_word("y", word))
+
+
+def can_begin(look, done):
+    heads = ("zzzzzzzz", "marks", "stands", "ranks", "weights", "read", "dead", "living", "eldest", "birth")
+    return any(look(done, [], word) for word in heads)
