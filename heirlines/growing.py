@@ -2,7 +2,7 @@
 
 from heirlines.checks import is_between, is_number_row, is_truth, is_whole, need_between
 from heirlines.customs import is_pair
-from heirlines.errors import BadPaper
+from heirlines.errors import BadPaper, TooGreat
 from heirlines.lines import MOST_CHILDREN, MOST_LINES, is_line, within_bounds
 from heirlines.parts import NOTHING, WHOLE, in_lowest, is_less, multiplied
 from heirlines.paths import least_path
@@ -95,6 +95,9 @@ def grown(paper, many):
     told = list(lines)
     way = ()
     for mark, is_alive, before, loop, after in chain:
+        # all of these members are in the family, so there is no need to build too wide ones
+        if len(before) + len(loop) * many + len(after) > MOST_CHILDREN:
+            raise TooGreat(MOST_CHILDREN)
         children = before + loop * many + after
         if TOLD in children:
             way = (children.index(TOLD),) + way

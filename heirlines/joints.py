@@ -7,7 +7,7 @@ from heirlines.sidebyside import PairSearch, close_pair
 
 FIRST = 0
 SECOND = 1
-SIDES = {"first": FIRST, "second": SECOND}
+SIDES = {"first": 0, "second": 1}
 
 
 class Joint:

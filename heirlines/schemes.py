@@ -7,15 +7,16 @@ from heirlines.readings import heir_in
 from heirlines.relations import RELATIONS, relation_of
 
 ANY_PICK = ("first", "second", "none")
-PICKS = (("none",), ("first", "none"), ("second", "none"), ("first", "none"), ANY_PICK, ANY_PICK, ANY_PICK, ANY_PICK)
+# for the RELATIONS in which not both have an heir of their own; any pick can stand for the others
+FEW_PICKS = (("none",), ("first", "none"), ("second", "none"), ("first", "none"))
 
 
 def need_scheme(scheme):
     """Return the SCHEME itself, or raise BadSentence."""
-    if not isinstance(scheme, tuple) or len(scheme) != len(PICKS):
+    if not isinstance(scheme, tuple) or len(scheme) != len(RELATIONS):
         raise BadSentence(None)
     for number, pick in enumerate(scheme):
-        if pick not in PICKS[number]:
+        if pick not in (FEW_PICKS[number] if number < len(FEW_PICKS) else ANY_PICK):
             raise BadSentence(number)
     return scheme
 

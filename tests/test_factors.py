@@ -213,7 +213,9 @@ class Growing(unittest.TestCase):
                 self.assertEqual(set(parts), {Fraction(*told)})
             else:
                 self.assertTrue(all(part > Fraction(*told) for part in parts))
-                self.assertTrue(all(parts[at] > parts[at + 1] for at in range(len(parts) - 1)))
+                # steps that stand many times may begin with more, as their loops are short then
+                if paper[2] == ():
+                    self.assertTrue(all(parts[at] > parts[at + 1] for at in range(len(parts) - 1)))
         self.assertTrue({(False, True, True, False), (True, False, True, False), (True, False, False, True),
                          (False, False, False, False)} <= kinds)
 

@@ -105,7 +105,7 @@ class Schemes(unittest.TestCase):
 
     def test_each_pick(self):
         seen = set()
-        for number, (_, custom, other) in enumerate(pairs(7400, 60)):
+        for number, (_, custom, other) in enumerate(pairs(7400, 90)):
             for family in FAMILIES[custom[0]][:90] + small_families(number, 20, 20, custom[0]):
                 founder = grow(family)
                 word = relation(heir_in(custom, founder), heir_in(other, founder))
@@ -127,7 +127,7 @@ class Joined(unittest.TestCase):
 
     def test_against_small_families(self):
         sorts = {}
-        for scheme, custom, other in pairs(7410, 150):
+        for scheme, custom, other in pairs(7410, 250):
             told = raised(joined, scheme, custom, other)
             if told is not None:
                 self.assertEqual(told, ("TooGreat", 8))
@@ -149,7 +149,7 @@ class Joined(unittest.TestCase):
             for family in FAMILIES[custom[0]]:
                 founder = grow(family)
                 self.assertEqual(heir_in(third, founder), picked(scheme, custom, other, founder))
-        self.assertTrue(all(sorts[sort] > 5 for sort in ("custom", "line", "row")), sorts)
+        self.assertTrue(all(sorts[sort] > 4 for sort in ("custom", "line", "row")), sorts)
 
     def check_witness(self, scheme, custom, other, paper):
         families = [item for item in paper[1:] if isinstance(item, tuple) and item and isinstance(item[0], tuple)]
@@ -161,7 +161,7 @@ class Joined(unittest.TestCase):
     def test_none_if_small_families_have_a_witness(self):
         """All witnesses of sort "line" in small families: where there is one, none joins the two."""
         many = 0
-        for scheme, custom, other in pairs(7411, 60):
+        for scheme, custom, other in pairs(7411, 100):
             found = False
             for family in FAMILIES[custom[0]]:
                 founder = grow(family)
@@ -309,7 +309,7 @@ class Papers(unittest.TestCase):
                                      else ("BadPaper", "line"))
 
     def test_rows(self):
-        for scheme, custom, other, paper in self.witnesses("row", 15):
+        for scheme, custom, other, paper in self.witnesses("row", 12):
             _, family, way, far_family, far_way, many = paper
             self.assertIs(check_joining(scheme, custom, other, paper), False)
             turned = ("row", far_family, far_way, family, way, many)

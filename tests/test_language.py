@@ -161,7 +161,7 @@ class Language(unittest.TestCase):
                 if isinstance(node, ast.Assign):
                     self.assertEqual([type(target) for target in node.targets], [ast.Name])
                     for part in ast.walk(node.value):
-                        self.assertNotIsInstance(part, (ast.Call, ast.Lambda, ast.Set, ast.ListComp))
+                        self.assertNotIsInstance(part, (ast.Call, ast.Lambda, ast.Set, ast.ListComp, ast.Name))
 
     def test_l4_l5_functions_and_classes(self):
         for name, function in self.functions:
