@@ -7,8 +7,8 @@ from fractions import Fraction
 from heirlines.factors import bound, deals_alike, factor, is_bound
 from heirlines.growing import growth, grown, limit
 from heirlines.shares import share
-from tests.helper import (Member, all_families, at, chain, dealt, dealt_member, doubled, grow, raised, random_deal, tell,
-                          with_members)
+from tests.helper import (Member, all_families, at, chain, dealt, dealt_member, doubled, grow, raised, random_deal,
+                          size_of, tell, with_members)
 from tests.interface_deals import GROWTH, HALF
 from tests.interface_later import DEAL
 
@@ -240,6 +240,20 @@ class Growing(unittest.TestCase):
                 way = (children.index(-1),) + way
             own = Member(mark, is_alive, [own if child == -1 else grow(lines, child) for child in children])
         return own, way
+
+    def test_told_growths_are_grown(self):
+        grown_often = 0
+        for deal, other in pairs_of_deals(3600, 120):
+            paper = growth(deal, other)
+            for many in (1, 2, 40) if paper is not None else ():
+                told = raised(grown, paper, many)
+                if told is None and size_of(grown(paper, many)[0]) < 3000:
+                    founder, way = self.build(paper, many)
+                    self.assertEqual(grown(paper, many), (tell(founder), way))
+                    grown_often += many == 40
+                elif told is not None:
+                    self.assertIn(told, (("TooGreat", 600), ("TooGreat", 10 ** 60), ("TooGreat", 2000)))
+        self.assertGreater(grown_often, 30)
 
     def test_grown_by_hand(self):
         dead = (1, False, ())
