@@ -1,12 +1,15 @@
 """Texts that are read word by word, so that the first word is told that can't stand."""
 
+from heirlines.deeds import MOST_DEEDS
 from heirlines.errors import BadWords
 from heirlines.lettering import is_name
 from heirlines.lines import MOST_CHILDREN, MOST_LINES, MOST_SMALL, need_family
-from heirlines.deeds import MOST_DEEDS
 from heirlines.shelf import Shelf, short_form
 from heirlines.texts import NO_DEEDS
 from heirlines.words import LIVES, is_number_word, is_way_word, way_of_word
+
+# how many words there are in a line of a STORY
+STORY_WORDS = {"birth": 3, "death": 2, "nothing": 1}
 
 
 class Scribe:
@@ -126,14 +129,14 @@ class StoryScribe(Scribe):
         """Whether a word may stand: what happens, a way, a mark."""
         word = words[at]
         if at == 0:
-            return word in ("birth", "death") or (word == NO_DEEDS and not self.deeds)
+            return word in STORY_WORDS and (word != NO_DEEDS or not self.deeds)
         if at == 1:
             return words[0] != NO_DEEDS and is_way_word(word)
         return at == 2 and words[0] == "birth" and is_number_word(word, 0, 2)
 
     def may_end(self, words):
         """Whether the line may end."""
-        return len(words) == {"birth": 3, "death": 2, NO_DEEDS: 1}.get(words[0] if words else None)
+        return len(words) > 0 and len(words) == STORY_WORDS[words[0]]
 
     def take(self, words):
         """Take a line."""
