@@ -127,9 +127,8 @@ class Joint:
     def as_table(self):
         """A table like that of a custom, which names the heir by the scheme in all families; without a witness."""
         lines = sorted(list(self.search.lines))
+        # so the row without children comes first
         rows = sorted(list(self.search.rows))
-        # the row without children comes first
-        rows = [(0, 0, "none")] + [row for row in rows if row != (0, 0, "none")]
         line_numbers = {line: number for number, line in enumerate(lines)}
         row_numbers = {row: number for number, row in enumerate(rows)}
         read = [tuple([self.read_cell(row, line, row_numbers) for line in lines]) for row in rows]

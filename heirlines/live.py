@@ -58,7 +58,6 @@ class House:
         self.first = need_tree(family, names)
         # all records that can be taken back or done again, and the place of the one that stands
         self.history = ((),)
-        self.place = 0
         self.stand_at(0)
 
     def stand_at(self, place):

@@ -33,7 +33,9 @@ BOUND = ((1, 1), (((0, 0), (1, 1)), ((1, 1), (1, 1))))
 BOUNDS = [(value, ("BadPaper", "bound")) for value in (
     None, 0, [], list(BOUND), ((1, 1),), ((2, 2), ()), ((True, 1), ()), ([1, 1], ()), ((1, 0), ()), ((-1, 1), ()),
     ((1, 1), []), ((1, 1), (None,)), ((1, 1), (((2, 0), (1, 1)),)), ((1, 1), (((0, True), (1, 1)),)),
-    ((1, 1), (((0, 0), (2, 4)),)), ((1, 1), (((0, 0), (1, 1), 0),)))]
+    ((1, 1), (((0, 0), (2, 4)),)), ((1, 1), (((0, 0), (1, 1), 0),)), ((1, 1), (((0, 2), (1, 1)),)),
+    ((1, 1), (((0,), (1, 1)),)), ((1, 1), ((None, (1, 1)),)), ((1, 1), (([0, 0], (1, 1)),)), ((1, 1), (((0, 0), 1),)),
+    ((1, 1), (((0, -1), (1, 1)),)), (None, ()), ((1, 1, 1), ()), ((1,), ()), ((1, True), ()), ((0, 2), ()))]
 GROWTH = ((LEAF,), ((0, True, (), (), ()), (0, True, (0, 0, -1), (), ())), ())
 GROWTHS = [(value, ("BadPaper", "growth")) for value in (
     None, 0, [], list(GROWTH), GROWTH[:2], ([], GROWTH[1], ()), (((0, True, (0,)),), GROWTH[1], ()), ((LEAF,), (), ()),
@@ -44,7 +46,13 @@ GROWTHS = [(value, ("BadPaper", "growth")) for value in (
     ((LEAF,), GROWTH[1][:1] + ((0, True, (0,), (-1,), ()),), ()),
     ((LEAF,), GROWTH[1][:1] + ((0, True, (-1,), (1,), ()),), ()),
     ((LEAF,), GROWTH[1][:1] + ((0, True, (-1,), [], ()),), ()),
-    ((LEAF,), GROWTH[1], None), ((LEAF,), GROWTH[1], []), ((LEAF,), GROWTH[1], (0, 1)), ((LEAF,), GROWTH[1], (1, 1)),
+    ((LEAF,), GROWTH[1][:1] + (list(GROWTH[1][1]),), ()), ((LEAF,), GROWTH[1][:1] + (GROWTH[1][1][:4],), ()),
+    ((LEAF,), GROWTH[1][:1] + (GROWTH[1][1] + ((),),), ()), ((LEAF,), ((0, True, (), (), (-1,)),), ()),
+    ((LEAF,), ((0, True, (-1,), (), ()),), ()), ((LEAF,), GROWTH[1][:1] + ((0, True, (1,), (), (-1,)),), ()),
+    ((LEAF,), GROWTH[1][:1] + ((0, True, (-1,), (), (1,)),), ()), (((3, True, ()),), GROWTH[1], ()),
+    ((LEAF,), GROWTH[1][:1] + ((0, True, (-1,) + (0,) * 600, (), ()),), ()),
+    ((LEAF,), GROWTH[1][:1] + ((0, True, (-1,), (0,) * 601, ()),), ()), ((LEAF,), GROWTH[1] * 101, ()),
+    ((LEAF,), GROWTH[1][:1] + ((3, True, (-1,), (), ()),), ()), ((LEAF,), GROWTH[1], None), ((LEAF,), GROWTH[1], []), ((LEAF,), GROWTH[1], (0, 1)), ((LEAF,), GROWTH[1], (1, 1)),
     ((LEAF,), GROWTH[1], (1, 3)), ((LEAF,), GROWTH[1], (True, 2)), ((LEAF,), GROWTH[1], (1,)))]
 LOTS = [(value, ("BadWay", value)) for value in (None, 0, [], [(1,)])]
 LOTS += [(value, ("BadWay", item)) for value, item in (
@@ -84,7 +92,7 @@ MANY_CUSTOMS += [((ELDEST, None), ("BadCustom", "form")), ((ELDEST, SECOND[-1][0
 FEW_CUSTOMS = MANY_CUSTOMS + [((ELDEST,), ("BadCustom", "customs")), ((ELDEST,) * 4, ("BadCustom", "customs"))]
 NEVER = ("never", (((0, 0), ("none",)),), (((0, 0), ("none",)),))
 ALL_PAPERS = [(value, ("BadPaper", word)) for value, word in (
-    (None, "form"), (0, "form"), (list(NEVER), "form"), (NEVER[:2] + ([],), "form"), (("part",), "form"),
+    (None, "form"), (0, "form"), (("nope",) + NEVER[1:], "form"), (list(NEVER), "form"), (NEVER[:2] + ([],), "form"), (("part",), "form"),
     (("never", (((0, 2), ("none",)),), ()), "form"), (("never", (((0, 0), ("no",)),), ()), "form"),
     (("never", NEVER[1] * 2, ()), "form"), (("never", (((0, True), ("none",)),), ()), "form"),
     (("never", (((0, 0), ()),), ()), "form"), (("never", (((0, 0), ["none"]),), ()), "form"),

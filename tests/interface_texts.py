@@ -43,7 +43,7 @@ SCHEMES = [(value, ("BadSentence", place)) for value, place in (
     (SCHEME[:6] + (["first"],) + SCHEME[7:], 6), (SCHEME[:7] + (0,), 7), ((None,) * 8, 0))]
 THIRDS = CUSTOMS + [TWO_MARKS]
 JOINING_PAPERS = [(value, ("BadPaper", "form")) for value in (
-    None, 0, [], ("custom",), ["custom", ELDEST], ("custom", None), ("custom", TWO_MARKS[0]), ("custom", ELDEST, 0),
+    None, 0, [], (), ("custom",), ["custom", ELDEST], ("custom", None), ("custom", TWO_MARKS[0]), ("custom", ELDEST, 0),
     (None, ELDEST), ("line", FAMILY), ("line", FAMILY, (0,), 0), ("line", None, ()), ("line", FAMILY, None),
     ("line", FAMILY, (2,)), ("line", FAMILY, [0]), ("line", ((1, True, ()),), ()), ("line", FAMILY, (True,)),
     ("row", FAMILY, (), FAMILY, ()), ("row", FAMILY, (), FAMILY, (), 0), ("row", FAMILY, (), FAMILY, (), 3),

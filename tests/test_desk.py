@@ -90,6 +90,18 @@ class Talks(unittest.TestCase):
             self.assertEqual(state(desk.house), before)
         self.talk(desk, ("again", "done"), ("record", "birth bob fay 0"))
 
+    def test_odd_lines_where_much_can_be_taken_back(self):
+        desk = self.begin(Desk())
+        self.talk(desk, ("birth bob fay 0", "done"), ("death fay", "done"), ("death cat", "done"), ("undo", "done"))
+        before = state(desk.house)
+        for line in ("undo 1 1", "undo 1 x", "undo 0", "undo 3", "undo 01", "undo ", " undo", "undo 1 ", "again 1 1", "again 0",
+                     "again 2", "again 01", "again ", "strike 0 0", "strike 0", "strike 2", "strike", "strike 1 ", "late 0",
+                     "late 3 death cat", "late 0 death fay", "late 2 death bob bob", "late 2", "claim 1 2", "heir 1"):
+            self.assertEqual(desk.say(line), "no", line)
+            self.assertEqual(state(desk.house), before)
+        self.talk(desk, ("again 1", "done"), ("undo 1", "done"), ("strike 1", "done"), ("strike 0", "done"),
+                  ("record", "nothing"))
+
     def test_customs_broken_off(self):
         for odd in ("custom", "house", "end", "heir", "", None, 7, "marks 1", "marks 1\nstands none"):
             for many in range(len(CUSTOM_LINES)):

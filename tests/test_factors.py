@@ -142,6 +142,84 @@ class Factor(unittest.TestCase):
         self.assertEqual(raised(limit, DEAL, SPLIT, None), ("BadMarks", 2))
 
 
+def leaves_deal(weights, looks, leads, takes, row_takes):
+    """A deal whose ranks 0, 1, .. are those of leaves of so many looks (mark, life), the last ones those of parents.
+
+    leads has for some (stand, rank) the stand behind; all other children lead to the last stand, where all is lost.
+    row_takes has for a stand the rank of a dead parent of the mark 0 who leads on.
+    """
+    stands = max(list(leads.values()) + list(row_takes)) + 2
+    ranks = len(weights)
+    read = tuple(tuple(leads.get((stand, rank), stands - 1) for rank in range(ranks)) for stand in range(stands))
+    close = [[[(ranks - 1, "lost")] * stands for _ in (0, 1)] for _ in range(3)]
+    for rank, (mark, life) in enumerate(looks):
+        close[mark][life][0] = (rank, takes[rank])
+    for stand, rank in row_takes.items():
+        close[0][0][stand] = (rank, "lines")
+    return (3, weights, read, tuple(tuple(tuple(row) for row in pair) for pair in close))
+
+
+# leaves: a living one of each mark, a dead one of the marks 0 and 1
+LOOKS = ((0, 1), (0, 0), (1, 1), (1, 0), (2, 1))
+
+
+class Shaped(unittest.TestCase):
+    """Deals whose rows can just have some shapes."""
+
+    def check(self, deal, other, told, is_told_reached):
+        self.assertEqual(factor(deal, other), told)
+        paper = growth(deal, other)
+        self.assertEqual(limit(deal, other, paper), told)
+        self.assertIs(is_reached(paper), is_told_reached)
+        self.assertEqual(bound(deal, other)[0], told)
+        self.assertTrue(is_bound(deal, other, bound(deal, other)))
+        return bound(deal, other)[1]
+
+    def test_a_cheaper_row_that_has_no_such_child(self):
+        # to the stand 1 there are the rows (0) and (1, 2, 2, .., 3): 0 is never among the 2s
+        leads = {(0, 0): 1, (0, 1): 2, (2, 2): 2, (2, 3): 1}
+        for weight, least in ((1, (1, 9)), (0, (0, 1))):
+            takes = ("self",) + ("lost",) * 4
+            deal = leaves_deal((1, 1, 9, 1, 1, 0), LOOKS, leads, takes, {1: 4})
+            other = leaves_deal((1, 1, weight, 1, 1, 0), LOOKS, leads, takes, {1: 4})
+            self.assertEqual(dict(self.check(deal, other, (1, 1), True))[(4, 4)], (1, 1))
+            # the last one of the longer row has something, too
+            looks = ((0, 1), (0, 0), (1, 0), (1, 1), (2, 1))
+            takes = ("self", "lost", "lost", "self", "lost")
+            deal = leaves_deal((1, 1, 9, 1, 1, 0), looks, leads, takes, {1: 4})
+            other = leaves_deal((1, 1, weight, 1, 1, 0), looks, leads, takes, {1: 4})
+            numbers = dict(self.check(deal, other, least, False))
+            self.assertEqual((numbers[(0, 0)], numbers[(3, 3)], numbers[(4, 4)]), ((1, 1), (1, 1), least))
+
+    def test_a_row_that_reaches_what_a_loop_tends_to(self):
+        # (0, 1, 1, ..) with the weights 1 and 3 beside 1 and 1, and (0, 2) with 1 and 2 beside 1 and 0
+        for first, second in ((1, 2), (2, 1)):
+            leads = {(0, 0): 1, (1, first): 1, (1, second): 2}
+            takes = ("self",) + ("lost",) * 4
+            weights = {first: 3, second: 2}
+            for ranks in ({1: 3, 2: 4}, {1: 4, 2: 3}):
+                deal = leaves_deal((1, weights[1], weights[2], 0, 0, 0), LOOKS, leads, takes, ranks)
+                far = leaves_deal((1, weights[1] - 2, weights[2] - 2, 0, 0, 0), LOOKS, leads, takes, ranks)
+                numbers = dict(self.check(deal, far, (1, 3), True))
+                self.assertEqual((numbers[(3, 3)], numbers[(4, 4)]), ((1, 3), (1, 3)))
+            # the loop alone
+            alone = {(0, 0): 1, (1, first): 1}
+            deal = leaves_deal((1, weights[1], weights[2], 0, 0, 0), LOOKS, alone, takes, {1: 3})
+            far = leaves_deal((1, weights[1] - 2, weights[2] - 2, 0, 0, 0), LOOKS, alone, takes, {1: 3})
+            self.check(deal, far, (1, 3), False)
+
+    def test_rows_that_come_together(self):
+        # (0) and (1, 0) lead to the same stand; what is ahead of the told child counts, too
+        for many in (1, 2, 3):
+            leads = {(0, 0): many + 1, (many, 0): many + 1}
+            leads.update({(stand, 1): stand + 1 for stand in range(many)})
+            takes = ("self",) + ("lost",) * 4
+            deal = leaves_deal((1, 3, 1, 1, 1, 0), LOOKS, leads, takes, {many + 1: 3})
+            other = leaves_deal((1, 1, 1, 1, 1, 0), LOOKS, leads, takes, {many + 1: 3})
+            self.check(deal, other, Fraction(many + 1, 3 * many + 1).as_integer_ratio(), True)
+            self.check(other, deal, (1, 1), True)
+
+
 class Bounds(unittest.TestCase):
 
     def test_the_bound_shows_the_factor(self):
@@ -172,6 +250,8 @@ class Bounds(unittest.TestCase):
         halves = tuple((ranks, (Fraction(*part) / 2).as_integer_ratio()) for ranks, part in numbers)
         self.assertTrue(is_bound(deal, other, told(halves)))
         self.assertFalse(is_bound(deal, other, ((1, 997), numbers)))
+        for _, part in numbers:
+            self.assertIs(is_bound(deal, other, (part, numbers)), part == paper[0])
         if len(numbers) > 1:
             self.assertFalse(is_bound(deal, other, (paper[0], numbers[1:] + numbers[:1])))
             self.assertFalse(is_bound(deal, other, (paper[0], numbers + numbers[:1])))
@@ -272,9 +352,10 @@ class Growing(unittest.TestCase):
 
     def test_too_great(self):
         step = (0, True, (), (), ())
-        wide = ((LEAF,), (step, (0, True, (-1,), (0,) * 20, ())), ())
-        self.assertIsNone(raised(grown, wide, 29))
-        self.assertEqual(raised(grown, wide, 30), ("TooGreat", 600))
+        for before, after in (((-1,), ()), ((), (-1,))):
+            wide = ((LEAF,), (step, (0, True, before, (0,) * 20, after)), ())
+            self.assertIsNone(raised(grown, wide, 29))
+            self.assertEqual(raised(grown, wide, 30), ("TooGreat", 600))
         lines = with_members(10 ** 60 - 1)
         most = (lines, (step, (0, True, (-1,), (), ())), ())
         self.assertIsNone(raised(grown, most, 1))

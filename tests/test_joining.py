@@ -7,10 +7,11 @@ import unittest
 from heirlines.customs import is_custom, renumbered
 from heirlines.joining import check_joining, joined, joining_paper, joins, unjoined_family
 from heirlines.least import least_custom
+from heirlines.least import size_of as least_size
 from heirlines.ruled import custom_of
 from heirlines.schemes import heir_by_scheme, need_scheme
 from heirlines.shorts import read_alike, short
-from tests.helper import (ELDEST, NOBODY, YOUNGEST, all_families, at, big_custom, chain, copied, customs, doubled,
+from tests.helper import (ELDEST, NOBODY, YOUNGEST, all_families, all_rules, at, big_custom, big_customs, chain, copied, customs, doubled,
                           great_family, grow, heir_in, raised, random_custom, random_rule, relation, retold,
                           size_of,
                           small_families, tell, with_members, with_place_changed, with_states_twice, with_turns)
@@ -71,7 +72,7 @@ def pairs(seed, many):
         if number % 3 == 0:
             custom, other = custom_of(random_rule(rng, marks, 2)), custom_of(random_rule(rng, marks, 2))
         elif number % 3 == 1:
-            custom, other = big_custom(rng, marks, 3, 3), big_custom(rng, marks, 2, 3)
+            custom, other = big_custom(rng, marks, rng.randint(3, 5), 3), big_custom(rng, marks, 2, rng.randint(3, 5))
         else:
             custom, other = random_custom(rng, marks, 4), random_custom(rng, marks, 4)
         if rng.random() < 0.3:
@@ -214,8 +215,24 @@ class Joined(unittest.TestCase):
         dead, living = (LEAF, (0, False, (0, 0))), (LEAF, (0, True, (0, 0)))
         self.assertIs(check_joining(scheme, ELDEST, YOUNGEST, ("row", dead, (), living, (), 2)), False)
         for paper in (("row", dead, (), living, (), 1), ("row", dead, (), dead, (), 2),
-                      ("row", dead, (), (LEAF, (0, False, ()), (0, True, (1, 0))), (), 2)):
+                      ("row", dead, (), (LEAF, (0, False, ()), (0, True, (1, 0))), (), 2),
+                      ("row", living, (), dead, (), 1)):
             self.assertEqual(raised(check_joining, scheme, ELDEST, YOUNGEST, paper), ("BadPaper", "row"))
+
+    def test_rows_whose_heirs_are_elsewhere(self):
+        dead, living, nobody = (LEAF, (0, False, (0, 0))), (LEAF, (0, True, (0, 0))), ((0, False, ()), (0, False, (0, 0)))
+        # by the first custom the founder himself, a child, a child of another one, or nobody
+        below = (LEAF, dead[1], (0, False, (1, 0)))
+        for family, way, other, other_way in ((dead, (), living, ()), (living, (), dead, ()), (below, (0,), below, (0,)),
+                                              (dead, (), below, (0,)), (nobody, (), nobody, ())):
+            self.assertEqual(raised(check_joining, FIRST, ELDEST, YOUNGEST, ("row", family, way, other, other_way, 2)),
+                             ("BadPaper", "row"))
+        # nobody in one of the two, as none of both is picked there
+        scheme = WHOEVER[:4] + ("none",) + WHOEVER[5:]
+        self.assertIsNone(heir_by_scheme(scheme, ELDEST, YOUNGEST, living))
+        for papers in ((dead, living), (living, dead)):
+            self.assertEqual(raised(check_joining, scheme, ELDEST, YOUNGEST, ("row", papers[0], (), papers[1], (), 2)),
+                             ("BadPaper", "row"))
 
     def test_all_that_join_have_one_joined_custom(self):
         rng = random.Random(7416)
@@ -228,6 +245,17 @@ class Joined(unittest.TestCase):
             self.assertIs(joins(scheme, custom, other, twin), True)
             self.assertIs(check_joining(scheme, custom, other, ("custom", twin)), True)
             self.assertEqual(joined(scheme, renumbered(custom, *with_turns(custom, rng)), other), third)
+
+    def test_eight_stands_or_ranks(self):
+        found = set()
+        for custom in big_customs(7419, 60, 1) + big_customs(7418, 60, 1, 5, 8):
+            stands, ranks = least_size(custom)
+            if (stands, ranks) not in found and 8 in (stands, ranks):
+                found.add((stands, ranks))
+                self.assertEqual(joined(FIRST, custom, ELDEST), least_custom(custom))
+                self.assertEqual(joined(SECOND, ELDEST, custom), least_custom(custom))
+        self.assertTrue({8} in [{stands, ranks} for stands, ranks in found], found)
+        self.assertTrue(any(stands < 8 for stands, _ in found) and any(ranks < 8 for _, ranks in found), found)
 
     def test_too_great(self):
         for seed, number in ((32, 4), (143, 5), (199, 6), (272, 8)):
@@ -265,6 +293,36 @@ class Joins(unittest.TestCase):
             if size_of(family) < 2000:
                 self.assertNotEqual(heir_in(third, grow(family)), picked(scheme, custom, other, grow(family)))
         self.assertTrue(min(found.values()) > 10, found)
+
+    def test_rules_against_small_families(self):
+        """Rules differ in what is held of many children alone, so whose claimant it is has to be known."""
+        rng = random.Random(7422)
+        told = [custom_of(rule) for rule in all_rules()[::11]]
+        parted = {}
+        for number in range(400):
+            custom, other, third = (rng.choice(told) for _ in range(3))
+            scheme = rng.choice((FIRST, SECOND, WHOEVER, AGREED, random_scheme(rng)))
+            third = (custom, other, third, third)[number % 4]
+            family = unjoined_family(scheme, custom, other, third)
+            least = next((one for one in FAMILIES[1]
+                          if heir_in(third, grow(one)) != picked(scheme, custom, other, grow(one))), None)
+            self.assertEqual(None if family is None else size_of(family), None if least is None else size_of(least))
+            self.assertIs(joins(scheme, custom, other, third), family is None)
+            many = None if family is None else size_of(family)
+            parted[many] = parted.get(many, 0) + 1
+            if family is not None:
+                self.assertNotEqual(heir_in(third, grow(family)), picked(scheme, custom, other, grow(family)))
+        self.assertTrue(min(parted[many] for many in (1, 2, 3, None)) > 5, parted)
+
+    def test_held_claimants_by_hand(self):
+        # living members are heirs themselves; dead ones lead on to the eldest, or the youngest
+        eldest = custom_of((1, ("self",), (True,), (("eldest", ((0, "late"), (0, "self"))),)))
+        youngest = custom_of((1, ("self",), (True,), (("youngest", ((0, "late"), (0, "self"))),)))
+        family = (LEAF, (0, False, (0, 0)))
+        for scheme, third in ((FIRST, youngest), (SECOND, eldest), (WHOEVER, youngest), (AGREED, eldest)):
+            self.assertEqual(unjoined_family(scheme, eldest, youngest, third), family)
+        self.assertIs(joins(WHOEVER, eldest, youngest, eldest), True)
+        self.assertIs(joins(SECOND, eldest, youngest, youngest), True)
 
     def test_third_custom_by_hand(self):
         self.assertEqual(unjoined_family(WHOEVER, NOBODY, NOBODY, ELDEST), (LEAF,))

@@ -9,7 +9,7 @@ from heirlines.renouncing import (all_fewest, behind_lot, fewest_renouncing, flo
                                   renouncing_lot)
 from heirlines.steady import is_steady
 from tests.helper import (ELDEST, at, big_custom, chain, copied, customs, doubled, great_family, grow, heir_in, line_of_claim,
-                          raised, small_families, tell, ways_of, with_members)
+                          raised, random_family, size_of, small_families, tell, ways_of, with_members)
 
 LEAF = (0, True, ())
 # the eldest living child, or the founder if there is none
@@ -110,6 +110,20 @@ class Fewest(unittest.TestCase):
             self.assertEqual(heir(custom, behind_lot(family, lot)), way)
         paper = floor_paper(custom, family, way)
         self.assertEqual(floor_shows(custom, family, way, paper), fewest)
+
+    def test_members_deep_down(self):
+        rng = random.Random(3711)
+        many = 0
+        while many < 60:
+            custom = big_custom(rng, rng.choice((1, 2)), rng.randint(2, 5), rng.randint(2, 5))
+            family = random_family(rng, 8, custom[0], 2, 0.8)
+            if size_of(family) > 14:
+                continue
+            for way in ways_of(grow(family)):
+                fewest = fewest_renouncing(custom, family, way)
+                if len(way) > 1 and fewest is not None and fewest > 0:
+                    many += 1
+                    self.check(custom, family, way, fewest)
 
     def test_steady_customs(self):
         families = small_families(3704, 40, 12, 1, 6)

@@ -109,6 +109,11 @@ class Told(unittest.TestCase):
             for family in all_families(3, 2)[::5] + all_families(4, 2)[::97]:
                 self.assertIs(is_filling(roll, family), family in told)
 
+    def test_families_of_other_marks(self):
+        self.assertEqual(raised(is_filling, (LEAF,), ((3, True, ()),)), ("BadFamily", 0))
+        self.assertFalse(is_filling((LEAF,), ((2, True, ()),)))
+        self.assertFalse(is_filling((LEAF,), ((0, False, ()),)))
+
     def test_five_children_in_any_order(self):
         roll = (((0,), "living", (), True), ((1,), "living", (), True), ((0,), "dead", (0, 0, 1, 1, 1), False))
         self.assertEqual(many_fillings(roll), 120)
@@ -197,6 +202,11 @@ class Heirs(unittest.TestCase):
         self.assertFalse(filling_holds(ELDEST, roll, (1,), (family, (0,))))
         self.assertFalse(filling_holds(ELDEST, roll, (), (family, (1,))))
         self.assertFalse(filling_holds(ELDEST, roll, (1,), (((0, True, ()),), ())))
+        # the heir's own line has to be filled rightly, too
+        for own in ((0, True, (0,)), (0, True, (0, 0))):
+            other = ((0, True, ()), own, (0, False, (1, 0)))
+            self.assertEqual(heir(ELDEST, other), (0,))
+            self.assertFalse(filling_holds(ELDEST, roll, (0,), (other, (0,))))
         ordered = roll[:1] + (roll[1][:3] + (True,),)
         self.assertFalse(filling_holds(ELDEST, ordered, (0,), (family, (1,))))
         self.assertTrue(filling_holds(ELDEST, ordered, (1,), (family, (1,))))
