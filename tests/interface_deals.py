@@ -51,7 +51,8 @@ GROWTHS = [(value, ("BadPaper", "growth")) for value in (
     ((LEAF,), ((0, True, (-1,), (), ()),), ()), ((LEAF,), GROWTH[1][:1] + ((0, True, (1,), (), (-1,)),), ()),
     ((LEAF,), GROWTH[1][:1] + ((0, True, (-1,), (), (1,)),), ()), (((3, True, ()),), GROWTH[1], ()),
     ((LEAF,), GROWTH[1][:1] + ((0, True, (-1,) + (0,) * 600, (), ()),), ()),
-    ((LEAF,), GROWTH[1][:1] + ((0, True, (-1,), (0,) * 601, ()),), ()), ((LEAF,), GROWTH[1] * 101, ()),
+    ((LEAF,), GROWTH[1][:1] + ((0, True, (-1,), (0,) * 601, ()),), ()), ((LEAF,), GROWTH[1][:1] + GROWTH[1][1:] * 200, ()),
+    ((LEAF,), GROWTH[1][:1] + ((0, True, (0,), (), ()),), ()), ((LEAF,), GROWTH[1][:1] + ((0, True, (), (), (0,)),), ()),
     ((LEAF,), GROWTH[1][:1] + ((3, True, (-1,), (), ()),), ()), ((LEAF,), GROWTH[1], None), ((LEAF,), GROWTH[1], []), ((LEAF,), GROWTH[1], (0, 1)), ((LEAF,), GROWTH[1], (1, 1)),
     ((LEAF,), GROWTH[1], (1, 3)), ((LEAF,), GROWTH[1], (True, 2)), ((LEAF,), GROWTH[1], (1,)))]
 LOTS = [(value, ("BadWay", value)) for value in (None, 0, [], [(1,)])]

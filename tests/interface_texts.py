@@ -46,6 +46,7 @@ JOINING_PAPERS = [(value, ("BadPaper", "form")) for value in (
     None, 0, [], (), ("custom",), ["custom", ELDEST], ("custom", None), ("custom", TWO_MARKS[0]), ("custom", ELDEST, 0),
     (None, ELDEST), ("line", FAMILY), ("line", FAMILY, (0,), 0), ("line", None, ()), ("line", FAMILY, None),
     ("line", FAMILY, (2,)), ("line", FAMILY, [0]), ("line", ((1, True, ()),), ()), ("line", FAMILY, (True,)),
+    ("rows", FAMILY, (), FAMILY, (), 1), (None, FAMILY, (), FAMILY, (), 1), ("lines", FAMILY, ()),
     ("row", FAMILY, (), FAMILY, ()), ("row", FAMILY, (), FAMILY, (), 0), ("row", FAMILY, (), FAMILY, (), 3),
     ("row", FAMILY, (), FAMILY, (1,), 1), ("row", FAMILY, (), FAMILY, (), True), ("row", FAMILY, (), FAMILY, (), None),
     ("row", FAMILY, (), FAMILY, (2,), 1), ("row", FAMILY, (), (), (), 1), ("row", list(FAMILY), (), FAMILY, (), 1))]

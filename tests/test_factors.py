@@ -356,6 +356,11 @@ class Growing(unittest.TestCase):
             wide = ((LEAF,), (step, (0, True, before, (0,) * 20, after)), ())
             self.assertIsNone(raised(grown, wide, 29))
             self.assertEqual(raised(grown, wide, 30), ("TooGreat", 600))
+        # as many as may be: children of a member, numbers in a row, lines, steps
+        self.assertEqual(len(grown(((LEAF,), (step, (0, True, (-1,), (0,) * 599, ())), ()), 1)[0][-1][2]), 600)
+        self.assertEqual(len(grown(((LEAF,), (step, (0, True, (-1,) + (0,) * 599, (), ())), ()), 1)[0][-1][2]), 600)
+        self.assertEqual(len(grown(((LEAF,), ((0, True, (0,) * 600, (), ()),), ()), 1)[0][-1][2]), 600)
+        self.assertEqual(grown((chain(2000), (step,), ()), 1), ((LEAF,), ()))
         lines = with_members(10 ** 60 - 1)
         most = (lines, (step, (0, True, (-1,), (), ())), ())
         self.assertIsNone(raised(grown, most, 1))

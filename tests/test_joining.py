@@ -6,13 +6,14 @@ import unittest
 
 from heirlines.customs import is_custom, renumbered
 from heirlines.joining import check_joining, joined, joining_paper, joins, unjoined_family
+from heirlines.joinsearch import JoinSearch
 from heirlines.least import least_custom
 from heirlines.least import size_of as least_size
 from heirlines.ruled import custom_of
 from heirlines.schemes import heir_by_scheme, need_scheme
 from heirlines.shorts import read_alike, short
 from tests.helper import (ELDEST, NOBODY, YOUNGEST, all_families, all_rules, at, big_custom, big_customs, chain, copied, customs, doubled,
-                          great_family, grow, heir_in, raised, random_custom, random_rule, relation, retold,
+                          great_family, grow, heir_in, raised, random_custom, random_rule, read_member, relation, retold,
                           size_of,
                           small_families, tell, with_members, with_place_changed, with_states_twice, with_turns)
 from tests.interface_texts import SCHEME
@@ -79,6 +80,24 @@ def pairs(seed, many):
             other = with_place_changed(custom, rng)
         found.append((random_scheme(rng), custom, other))
     return found
+
+
+def sought(seed):
+    """A scheme and two customs of as many stands as ranks, the second one perhaps much like the first one."""
+    rng = random.Random(seed)
+    many = rng.choice((3, 4, 5, 6, 8))
+    custom = big_custom(rng, 1, many, many)
+    other = with_place_changed(custom, rng) if rng.random() < 0.4 else big_custom(rng, 1, many, many)
+    if rng.random() < 0.5:
+        return ("none", "first", "second", "first") + (rng.choice(ALL_PICKS),) * 4, custom, other
+    return random_scheme(rng), custom, other
+
+
+class Everything(JoinSearch):
+    """All states of three customs, whether they are joined or not."""
+
+    def is_joined(self, line):
+        return True
 
 
 class Schemes(unittest.TestCase):
@@ -258,16 +277,29 @@ class Joined(unittest.TestCase):
         self.assertTrue(any(stands < 8 for stands, _ in found) and any(ranks < 8 for _, ranks in found), found)
 
     def test_too_great(self):
-        for seed, number in ((32, 4), (143, 5), (199, 6), (272, 8)):
-            rng = random.Random(seed)
-            self.assertEqual(rng.choice((4, 5, 6, 8)), number)
-            custom = big_custom(rng, 1, number, number)
-            other = with_place_changed(custom, rng) if rng.random() < .4 else big_custom(rng, 1, number, number)
-            scheme = ("none", "first", "second", "first") + (rng.choice(ALL_PICKS),) * 4
+        # more than 8 stands, more than 8 ranks, or both
+        for seed in (281, 311, 502, 597, 727):
+            scheme, custom, other = sought(seed)
             self.assertEqual(raised(joined, scheme, custom, other), ("TooGreat", 8))
             self.assertEqual(raised(joining_paper, scheme, custom, other), ("TooGreat", 8))
             # there is no witness, so one that joins is only too great to be told
             self.assertFalse(joins(scheme, custom, other, custom))
+
+    def test_rows_alone(self):
+        """No line has two heirs there, and no pair of ranks has the numbers of such a pair of stands."""
+        for seed in (1389, 1871):
+            scheme, custom, other = sought(seed)
+            paper = joining_paper(scheme, custom, other)
+            self.assertEqual(paper[0], "row")
+            self.assertTrue(shows(scheme, custom, other, paper))
+            self.assertIsNone(joined(scheme, custom, other))
+
+
+def state_of(told, founder):
+    """The ranks by three customs, the relation of the first two, and which of these the third one's claimant is."""
+    (rank, first), (far_rank, second), (last_rank, third) = [read_member(custom, founder) for custom in told]
+    sames = tuple(third is not None and third == one for one in (first, second))
+    return (rank, far_rank, relation(first, second)), last_rank, sames
 
 
 class Joins(unittest.TestCase):
@@ -313,6 +345,20 @@ class Joins(unittest.TestCase):
             if family is not None:
                 self.assertNotEqual(heir_in(third, grow(family)), picked(scheme, custom, other, grow(family)))
         self.assertTrue(min(parted[many] for many in (1, 2, 3, None)) > 5, parted)
+
+    def test_states_of_three_customs(self):
+        rng = random.Random(7423)
+        founders = [grow(family) for family in FAMILIES[1]]
+        for number in range(30):
+            told = [big_custom(rng, 1, rng.randint(2, 4), rng.randint(2, 4)) for _ in range(3)]
+            told[2] = (told[0], told[1], told[2], with_place_changed(told[0], rng))[number % 4]
+            search = Everything(WHOEVER, *told)
+            for founder in founders:
+                self.assertIn(state_of(told, founder), search.lines)
+            for state in search.lines:
+                family = search.family(state)
+                if size_of(family) < 300:
+                    self.assertEqual(state_of(told, grow(family)), state)
 
     def test_held_claimants_by_hand(self):
         # living members are heirs themselves; dead ones lead on to the eldest, or the youngest
