@@ -93,7 +93,10 @@ MANY_CUSTOMS += [((ELDEST, None), ("BadCustom", "form")), ((ELDEST, SECOND[-1][0
 FEW_CUSTOMS = MANY_CUSTOMS + [((ELDEST,), ("BadCustom", "customs")), ((ELDEST,) * 4, ("BadCustom", "customs"))]
 NEVER = ("never", (((0, 0), ("none",)),), (((0, 0), ("none",)),))
 ALL_PAPERS = [(value, ("BadPaper", word)) for value, word in (
-    (None, "form"), (0, "form"), (("nope",) + NEVER[1:], "form"), (list(NEVER), "form"), (NEVER[:2] + ([],), "form"), (("part",), "form"),
+    (None, "form"), (0, "form"), (("nope",) + NEVER[1:], "form"), (NEVER + ((),), "form"),
+    (("never", (None,), ()), "form"), (("never", ((0, 0),), ()), "form"), (("never", (((0, 0),),), ()), "form"),
+    (("never", (((0, 0), ("none",), 0),), ()), "form"), (("never", (((0,), ("none",)),), ()), "form"),
+    (("never", (((0, 0, 0), ("none",)),), ()), "form"), (("never", (((0, 0), ("none",) * 2),), ()), "form"), (list(NEVER), "form"), (NEVER[:2] + ([],), "form"), (("part",), "form"),
     (("never", (((0, 2), ("none",)),), ()), "form"), (("never", (((0, 0), ("no",)),), ()), "form"),
     (("never", NEVER[1] * 2, ()), "form"), (("never", (((0, True), ("none",)),), ()), "form"),
     (("never", (((0, 0), ()),), ()), "form"), (("never", (((0, 0), ["none"]),), ()), "form"),

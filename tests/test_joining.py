@@ -349,8 +349,8 @@ class Joins(unittest.TestCase):
     def test_states_of_three_customs(self):
         rng = random.Random(7423)
         founders = [grow(family) for family in FAMILIES[1]]
-        for number in range(30):
-            told = [big_custom(rng, 1, rng.randint(2, 4), rng.randint(2, 4)) for _ in range(3)]
+        for number in range(60):
+            told = [big_custom(rng, 1, rng.randint(2, 5), rng.randint(2, 5)) for _ in range(3)]
             told[2] = (told[0], told[1], told[2], with_place_changed(told[0], rng))[number % 4]
             search = Everything(WHOEVER, *told)
             for founder in founders:

@@ -10,7 +10,7 @@ from heirlines.heirs import heir
 from heirlines.rolls import (filling_holds, is_filling, is_member, many_fillings, many_with, may_be_heir, may_be_none,
                              need_roll, possible_heirs, sure_heir, surely_agree, surely_is_heir)
 from heirlines.shorts import short
-from tests.helper import (ELDEST, NOBODY, YOUNGEST, Member, all_families, big_custom, chain, customs, great_family, grow,
+from tests.helper import (ELDEST, NOBODY, YOUNGEST, Member, all_families, at, big_custom, chain, customs, great_family, grow,
                           heir_in, narrow, raised, random_custom, retold, tell, ways_of)
 
 LIVES = {"living": (True,), "dead": (False,), "open": (False, True)}
@@ -174,6 +174,14 @@ class Heirs(unittest.TestCase):
                 for far_way in ways_of(grow(family))[:4]:
                     self.assertIs(filling_holds(custom, roll, way, (family, far_way)),
                                   (way, family, far_way) in right)
+                # one member is another one, so it may be no filling
+                for place in ways_of(grow(family))[-3:]:
+                    founder = grow(family)
+                    at(founder, place).is_alive = not at(founder, place).is_alive
+                    now = heir_in(custom, founder)
+                    if now is not None:
+                        self.assertIs(filling_holds(custom, roll, way, (tell(founder), now)),
+                                      (way, tell(founder), now) in right)
 
     def check_two(self, custom, other, roll, ways, founders):
         unlike = [founder for founder in founders if heir_in(custom, founder) != heir_in(other, founder)]
